@@ -1,0 +1,1 @@
+"""Rows of cells with choices, decided for all widths."""

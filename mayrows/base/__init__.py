@@ -1,0 +1,1 @@
+"""What all other folders of the package use."""

@@ -1,0 +1,1 @@
+"""Mayrows, and the cells of which they can be made."""

@@ -1,0 +1,1 @@
+"""Tables of pairs, and what is decided of them."""

@@ -1,0 +1,95 @@
+"""The examples' rows and tables, and such that are made at random from a told number."""
+
+import random
+
+from mayrows.row.rows import Mayrow
+from mayrows.table.tables import Table
+
+COPY = Mayrow(1, 1, 1, ((0, 0, 0, 0), (0, 1, 1, 0)), (0,))
+FREE = Mayrow(1, 1, 1, ((0, 0, 0, 0), (0, 1, 0, 0), (0, 1, 1, 0)), (0,))
+ONCE = Mayrow(1, 1, 2, ((0, 0, 0, 0), (0, 1, 0, 0), (0, 1, 1, 1), (1, 0, 0, 1), (1, 1, 0, 1)), (0, 1))
+LATE = Mayrow(1, 1, 3, ((0, 0, 0, 1), (0, 0, 1, 2), (0, 1, 0, 1), (0, 1, 1, 2), (1, 0, 0, 1), (1, 0, 1, 2),
+                        (2, 1, 0, 1), (2, 1, 1, 2)), (0, 1))
+HALF = Mayrow(1, 1, 1, ((0, 0, 0, 0),), (0,))
+ODD = Mayrow(1, 1, 2, ((0, 0, 0, 1), (0, 1, 0, 1), (1, 0, 0, 0), (1, 1, 0, 0)), (1,))
+
+# Rows whose tables have just 60 states, and just 61.
+SIXTY = Mayrow(1, 1, 6, (
+    (0, 0, 1, 1), (0, 0, 1, 4), (0, 1, 0, 1), (1, 0, 0, 1), (1, 0, 0, 3), (1, 0, 1, 3), (1, 0, 1, 5), (1, 1, 0, 2),
+    (1, 1, 1, 1), (1, 1, 1, 3), (2, 0, 0, 3), (2, 0, 0, 5), (2, 0, 1, 0), (2, 0, 1, 1), (2, 0, 1, 3), (2, 1, 0, 4),
+    (2, 1, 0, 5), (3, 0, 1, 4), (3, 1, 0, 5), (3, 1, 1, 3), (3, 1, 1, 4), (4, 0, 0, 2), (4, 0, 0, 5), (4, 0, 1, 4),
+    (4, 1, 0, 3), (4, 1, 1, 2), (5, 0, 1, 2), (5, 0, 1, 4), (5, 1, 0, 0), (5, 1, 1, 0)), (1, 3))
+SIXTY_ONE = Mayrow(1, 1, 6, (
+    (0, 0, 0, 3), (0, 0, 1, 0), (0, 0, 1, 1), (0, 1, 1, 4), (1, 0, 0, 5), (1, 1, 0, 5), (1, 1, 1, 3), (2, 0, 0, 4),
+    (2, 0, 0, 5), (2, 0, 1, 2), (2, 0, 1, 5), (2, 1, 0, 3), (2, 1, 1, 0), (3, 0, 0, 4), (3, 0, 1, 2), (3, 1, 0, 0),
+    (3, 1, 0, 2), (3, 1, 1, 5), (4, 0, 1, 3), (4, 0, 1, 4), (4, 1, 1, 1), (5, 0, 0, 0), (5, 0, 0, 1), (5, 0, 1, 0),
+    (5, 1, 0, 5), (5, 1, 1, 2)), (0, 3))
+
+
+def random_row(seed, reads=1, writes=1, most=3):
+    """A row with at most so many states."""
+    chance = random.Random(seed)
+    states = chance.randint(1, most)
+    choices = [(state, letter, answer, following) for state in range(states) for letter in range(2 ** reads)
+               for answer in range(2 ** writes) for following in range(states)]
+    many = chance.randint(0, min(len(choices), 3 * states * 2 ** reads))
+    chance.shuffle(choices)
+    lasts = chance.sample(range(states), chance.randint(0, states))
+    return Mayrow(reads, writes, states, tuple(choices[:many]), tuple(lasts))
+
+
+def random_rows(seed, reads=1, writes=1, many=4):
+    """Rows of a table, not the least ones."""
+    chance = random.Random(seed)
+    return tuple([(chance.random() < 0.5, tuple([chance.randrange(many) for _ in range(2 ** (reads + writes))]))
+                  for _ in range(many)])
+
+
+def random_table(seed, reads=1, writes=1, many=4):
+    """A table with at most so many states."""
+    return Table.told(reads, writes, random_rows(seed, reads, writes, many))
+
+
+def widths_table(lasts, reads=1, writes=1, back=None):
+    """The table of all pairs whose widths are told: the width k leads to the state k.
+
+    `lasts` has a boolean for each state; behind the last state comes the state `back`, or that one again.
+    """
+    many = len(lasts)
+    behind = many - 1 if back is None else back
+    nexts = [k + 1 if k + 1 < many else behind for k in range(many)]
+    return Table.told(reads, writes, tuple([(bool(lasts[k]), (nexts[k],) * 2 ** (reads + writes))
+                                            for k in range(many)]))
+
+
+def round_table(many, last, reads=1, writes=1):
+    """The table of all pairs whose width has the rest `last` when divided by `many`."""
+    return widths_table([k == last for k in range(many)], reads, writes, back=0)
+
+
+def branched_table(tail, rounds, holes=None, escape=False):
+    """A table that reads one line and writes two: `tail` steps, then an answer letter chooses one of the rounds.
+
+    The questions of one width all lead to one set. There are `tail` sets of one state, and then as many as the
+    least common multiple of the lengths of the rounds. All sets end, unless `holes` tells for each round which
+    place of it is no last state. With `escape` each answer letter to a question letter 1 leads to a useful state.
+    """
+    bases = [tail + sum(rounds[:at]) for at in range(len(rounds))]
+    dead = tail + sum(rounds)
+    rows = [(True, _moves(dead, {at % 2: at + 1}, escape)) for at in range(tail - 1)]
+    rows.append((True, _moves(dead, {answer: base for answer, base in enumerate(bases)}, escape)))
+    for at, many in enumerate(rounds):
+        for place in range(many):
+            last = holes is None or place != holes[at]
+            # Another letter at the begin of each round keeps its states apart, also if all of them are last ones.
+            ways = {3 if place == 0 else 0: bases[at] + (place + 1) % many}
+            rows.append((last, _moves(dead, ways, escape)))
+    rows.append((False, (dead,) * 8))
+    return Table.told(1, 2, tuple(rows))
+
+
+def _moves(dead, ways, escape):
+    least = ways[min(ways)]
+    by_nought = [ways.get(answer, dead) for answer in range(4)]
+    by_one = [ways.get(answer, least if escape else dead) for answer in range(4)]
+    return tuple(by_nought + by_one)
