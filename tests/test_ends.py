@@ -263,6 +263,18 @@ class PapersTest(Checked):
             self.assertIs(is_end_paper(table, value), unanswered(table) is None)
             self.assertIs(oracles.is_end_paper(table, value), unanswered(table) is None)
 
+    def test_each_set_of_a_family_ends(self):
+        wrong = 0
+        for table in tables():
+            met, good = met_sets(table)
+            value = ("answered", tuple(sorted(met)))
+            self.assertIs(is_end_paper(table, value), all(good))
+            wrong += not all(good)
+        self.assertGreater(wrong, 30)
+        self.assertIs(is_end_paper(Table.of(HALF), ("answered", ((), (0,)))), False)
+        # The empty set is closed by itself, but it does not end.
+        self.assertIs(is_end_paper(Table.of(COPY), ("answered", ((), (0,)))), False)
+
     def test_families_of_2000_sets_and_one_more(self):
         # State 0 leads to sixteen states, each of which leads to itself alone; so each set of these follows itself.
         loops = [(True, tuple([at if answer == 0 or answer == 1 and (at - 1) >> letter & 1 else 17

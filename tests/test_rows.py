@@ -123,6 +123,10 @@ class MakingTest(Checked):
                     else:
                         self.assertRaisesThis(InvalidRow, None, Mayrow, 1, 1, states, choices, lasts)
 
+    def test_no_states_and_too_many(self):
+        for states in (-1, 0, 7, True):
+            self.assertRaisesThis(InvalidRow, None, Mayrow, 1, 1, states, (), ())
+
     def test_wrong_arguments(self):
         self.check_wrong(Mayrow, (1, 1, 2, ((0, 0, 0, 0),), (0,)),
                          (InvalidRow, wrong_numbers(1, 2)), (InvalidRow, wrong_numbers(1, 2)),

@@ -32,7 +32,7 @@ class Chain:
         """Whether a pair that meets this set is a pair of the second table behind the first one."""
         return any([last and mask & self._lasts != 0 for (last, nexts), mask in zip(self._rows, masks)])
 
-    def set_behind(self, masks, letter, answer):
+    def set_after(self, masks, letter, answer):
         """The set that is met by one more letter and its answer letter."""
         found = [0] * len(masks)
         for state, mask in enumerate(masks):
@@ -62,7 +62,7 @@ def chain_rows(table, other_table, most):
         nexts = []
         for letter in range(1 << table.reads):
             for answer in range(1 << other_table.writes):
-                following = chain.set_behind(masks, letter, answer)
+                following = chain.set_after(masks, letter, answer)
                 if following not in places:
                     places[following] = len(met)
                     met.append(following)

@@ -3,7 +3,7 @@
 from mayrows.base.checks import are_ascending, are_tuples_below
 from mayrows.table.searches import least_pair_in
 from mayrows.table.states import FIRST_ONLY, ONE_ONLY, met_states, paired_rows
-from mayrows.table.tables import check_alike, check_table, is_pair
+from mayrows.table.tables import check_alike, check_table
 
 
 def is_within(table, other_table):
@@ -38,8 +38,7 @@ def is_within_paper(table, other_table, value):
     if len(value) == 2 and value[0] == "within":
         return _are_closed_pairs(table, other_table, value[1])
     if len(value) == 3 and value[0] == "beyond":
-        pair = value[1:]
-        return is_pair(pair, table.reads, table.writes) and pair in table and pair not in other_table
+        return value[1:] in table and value[1:] not in other_table
     return False
 
 
