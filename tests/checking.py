@@ -5,9 +5,10 @@ import unittest
 from itertools import combinations
 
 from mayrows.errors import InvalidNumber, TooMany
+from mayrows.least.passes import Passes
 from mayrows.row.rows import Mayrow
 from mayrows.table.tables import Table
-from tests.samples import COPY, LATE
+from tests.samples import COPY, LATE, PARITY
 
 
 def strangers():
@@ -20,7 +21,8 @@ def strangers():
             True, False, None, "", "0", "1", "3", "4", "x", "00 ", " 0", "0\n", "\t", "0" * 201, "1" * 3000, printable,
             (), (0,), (True,), (None,), ("",), ((),), (0, 0, 0, 0), ((0, 0, 0, 0),), [], [0], [[0, 0, 0, 0]], ["0"],
             {}, {0: 0}, {"0": ()}, {(0, 0, 0): ((0, 0, 0),)}, deep_tuple, deep_list, deep_dict,
-            COPY, LATE, Table.of(COPY), (COPY, Table.of(LATE)), {"a": [COPY]}]
+            COPY, LATE, Table.of(COPY), PARITY, (COPY, Table.of(LATE)), {"a": [COPY]}, (PARITY,),
+            [PARITY, PARITY]]
 
 
 def wrong_numbers(low, high):
@@ -43,6 +45,16 @@ def wrong_rows():
 def wrong_tables():
     """Strangers that are no tables."""
     return [value for value in strangers() if not isinstance(value, Table)]
+
+
+def wrong_passes():
+    """Strangers that are no plain rows."""
+    return [value for value in strangers() if not isinstance(value, Passes)]
+
+
+def wrong_booleans():
+    """Strangers that are no booleans."""
+    return [value for value in strangers() if type(value) is not bool]
 
 
 def is_same(one, other):
@@ -96,7 +108,7 @@ class Checked(unittest.TestCase):
             for part in value:
                 self.assertIsPlain(part)
         else:
-            self.assertIn(type(value), (int, str, bool, type(None), Mayrow, Table))
+            self.assertIn(type(value), (int, str, bool, type(None), Mayrow, Table, Passes))
 
     def assertRaisesThis(self, error, given, function, *values, **named):
         """The call raises just this kind of error, keeps what was given, and changes nothing."""

@@ -2,6 +2,7 @@
 
 import random
 
+from mayrows.least.passes import Passes
 from mayrows.row.rows import Mayrow
 from mayrows.table.tables import Table
 
@@ -12,6 +13,10 @@ LATE = Mayrow(1, 1, 3, ((0, 0, 0, 1), (0, 0, 1, 2), (0, 1, 0, 1), (0, 1, 1, 2), 
                         (2, 1, 0, 1), (2, 1, 1, 2)), (0, 1))
 HALF = Mayrow(1, 1, 1, ((0, 0, 0, 0),), (0,))
 ODD = Mayrow(1, 1, 2, ((0, 0, 0, 1), (0, 1, 0, 1), (1, 0, 0, 0), (1, 1, 0, 0)), (1,))
+FAR = Mayrow(1, 1, 5, ((0, 0, 0, 1), (0, 0, 1, 3), (0, 1, 0, 2), (0, 1, 1, 4), (1, 0, 0, 1), (1, 1, 0, 2),
+                       (2, 0, 0, 1), (2, 1, 0, 2), (3, 0, 0, 3), (3, 1, 0, 4), (4, 0, 0, 3), (4, 1, 0, 4)), (1, 4))
+# The plain row of the document: it writes a 1 where the number of ones from there on is even, and not for a 0.
+PARITY = Passes(1, 1, ((0, 1), (1, 0)), (0, 1), ((((0, 0), (1, 0)), ((0, 0), (1, 0))),))
 
 # Rows whose tables have just 60 states, and just 61.
 SIXTY = Mayrow(1, 1, 6, (
@@ -93,3 +98,54 @@ def _moves(dead, ways, escape):
     by_nought = [ways.get(answer, dead) for answer in range(4)]
     by_one = [ways.get(answer, least if escape else dead) for answer in range(4)]
     return tuple(by_nought + by_one)
+
+
+def moves_table(reads, writes, lasts, moves):
+    """The table of moves (state, letter, answer letter, next state); all others lead to a state without use.
+
+    `lasts` has a boolean for each state.
+    """
+    many = len(lasts)
+    rows = [[many] * 2 ** (reads + writes) for _ in range(many + 1)]
+    for state, letter, answer, following in moves:
+        assert rows[state][letter * 2 ** writes + answer] == many
+        rows[state][letter * 2 ** writes + answer] = following
+    return Table.told(reads, writes, tuple([(last, tuple(row)) for last, row in zip([*lasts, False], rows)]))
+
+
+def register_table(delay, lasts):
+    """A table with one answer letter more for each 1 that is read: it goes through places, and is last at some.
+
+    Behind `delay` letters the vectors are met in the order of binary numbers: a token at the place k, from 1 on,
+    stands for 2 ** (k - 1). `lasts` has a boolean for each place.
+    """
+    moves = [(at, letter, 0, at + 1) for at in range(delay) for letter in (0, 1)]
+    moves += [(delay, 0, 0, delay), (delay, 1, 0, delay), (delay, 1, 1, delay + 1)]
+    moves += [(delay + at, letter, 0, delay + at + 1) for at in range(1, len(lasts)) for letter in (0, 1)]
+    return moves_table(1, 1, [False] * (delay + 1) + list(lasts), moves)
+
+
+def counters_table(delay):
+    """A table of which the questions of the width 62 have 2000 - 16 + `delay` ... unlike vectors.
+
+    The letter 0 leads to two counters, of the letters 1 and 2; the letter 1 leads, behind a delay, to one counter.
+    """
+    moves = [(0, 0, 0, 1), (0, 1, 0, 6 if delay else 4)]
+    for letter in range(4):
+        moves += [(1, letter, 0, 1), (2, letter, 0, 2), (3, letter, 1, 3), (4, letter, 0, 4), (5, letter, 2, 5)]
+    moves += [(1, 1, 1, 2), (1, 2, 1, 3), (4, 1, 1, 5)]
+    for at in range(delay):
+        following = 4 if at == delay - 1 else 7 + at
+        moves += [(6 + at, letter, 0, following) for letter in range(4)]
+    return moves_table(2, 2, [False, True, True, True, True, True] + [False] * delay, moves)
+
+
+def random_passes(seed, reads=1, writes=1, most=3):
+    """A plain row with at most so many right states and left states."""
+    chance = random.Random(seed)
+    rights, lefts = chance.randint(1, most), chance.randint(1, most)
+    nexts = tuple([tuple([chance.randrange(rights) for _ in range(2 ** reads)]) for _ in range(rights)])
+    starts = tuple([right for right in range(rights) if chance.random() < 0.8])
+    rows = tuple([tuple([tuple([(chance.randrange(2 ** writes), chance.randrange(lefts)) for _ in range(rights)])
+                         for _ in range(2 ** reads)]) for _ in range(lefts)])
+    return Passes(reads, writes, nexts, starts, rows)

@@ -1,11 +1,21 @@
 """Checks of numbers and of tuples of numbers [0.1, 0.4]."""
 
-from mayrows.errors import InvalidNumber
+from mayrows.errors import InvalidNumber, InvalidOperation
+
+# The greatest integer of sixty digits: what is passed is not greater [0.1].
+MOST_INTEGER = 10 ** 60 - 1
+# The greatest number of letters that can be seen ahead [0.7].
+MOST_AHEAD = 3
 
 
 def is_number(value, low, high):
     """Whether the value is an integer, and no boolean, from `low` to `high`."""
     return isinstance(value, int) and not isinstance(value, bool) and low <= value <= high
+
+
+def is_integer(value):
+    """Whether the value is an integer of at most sixty digits, and no boolean."""
+    return is_number(value, -MOST_INTEGER, MOST_INTEGER)
 
 
 def are_lines(reads, writes):
@@ -17,6 +27,17 @@ def check_number(given, low, high):
     """Raise `InvalidNumber` unless `given` is an integer from `low` to `high`."""
     if not is_number(given, low, high):
         raise InvalidNumber(given)
+
+
+def check_ahead(ahead):
+    """Raise `InvalidNumber` unless `ahead` is an integer from 0 to 3."""
+    check_number(ahead, 0, MOST_AHEAD)
+
+
+def check_boolean(value):
+    """Raise `InvalidOperation` unless the value is a boolean."""
+    if not isinstance(value, bool):
+        raise InvalidOperation("this is no boolean")
 
 
 def are_numbers_below(value, bound):

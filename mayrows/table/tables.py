@@ -126,9 +126,8 @@ def is_pair(value, reads, writes):
     return len(value[0]) == len(value[1])
 
 
-def state_behind(rows, writes, question, answer):
-    """The state to which a pair leads from state 0."""
-    state = 0
+def state_behind(rows, writes, question, answer, state=0):
+    """The state to which a pair leads from a state, or from state 0."""
     for index in pair_indices(question, answer, writes):
         state = rows[state][1][index]
     return state

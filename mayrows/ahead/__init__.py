@@ -1,0 +1,1 @@
+"""What can be answered before the whole question is known."""

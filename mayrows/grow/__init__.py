@@ -1,0 +1,1 @@
+"""How the number of answers grows."""

@@ -1,0 +1,1 @@
+"""The answers in their order, and the plain rows that have them."""
