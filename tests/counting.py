@@ -60,26 +60,28 @@ def vector(table, question, most=None):
     return tuple([count if most is None else min(count, most) for count in counts])
 
 
-def vectors_after(table, held, most=None):
-    """The vectors behind one of them, by each letter [6.5]."""
-    kept = oracles.useful(table)
+def vectors_after(table, held, most=None, kept=None):
+    """The vectors behind one of them, by each letter [6.5]; `kept` are the useful states."""
+    kept = oracles.useful(table) if kept is None else kept
     found = []
     for letter in range(2 ** table.reads):
         counts = {state: 0 for state in range(len(table.rows))}
         for state, number in zip(kept, held):
-            for answer in range(2 ** table.writes):
-                counts[next_state(table, state, letter, answer)] += number
+            if number:
+                for answer in range(2 ** table.writes):
+                    counts[next_state(table, state, letter, answer)] += number
         found.append(tuple([counts[state] if most is None else min(counts[state], most) for state in kept]))
     return found
 
 
 def met_vectors(table, most=None, stop=2100):
     """The vectors in the order in which they are met, at most about so many, each with its least question."""
-    first = tuple([int(state == 0) for state in oracles.useful(table)])
+    kept = oracles.useful(table)
+    first = tuple([int(state == 0) for state in kept])
     met = {first: ""}
     order = [first]
     for held in order:
-        for letter, following in enumerate(vectors_after(table, held, most)):
+        for letter, following in enumerate(vectors_after(table, held, most, kept)):
             if following not in met:
                 met[following] = met[held] + str(letter)
                 order.append(following)
@@ -90,9 +92,10 @@ def met_vectors(table, most=None, stop=2100):
 
 def width_vectors(table, width, most=None):
     """The set of the vectors of all questions of just this width."""
-    layer = {tuple([int(state == 0) for state in oracles.useful(table)])}
+    kept = oracles.useful(table)
+    layer = {tuple([int(state == 0) for state in kept])}
     for _ in range(width):
-        layer = {following for held in layer for following in vectors_after(table, held, most)}
+        layer = {following for held in layer for following in vectors_after(table, held, most, kept)}
     return layer
 
 

@@ -15,7 +15,7 @@ HALF = Mayrow(1, 1, 1, ((0, 0, 0, 0),), (0,))
 ODD = Mayrow(1, 1, 2, ((0, 0, 0, 1), (0, 1, 0, 1), (1, 0, 0, 0), (1, 1, 0, 0)), (1,))
 FAR = Mayrow(1, 1, 5, ((0, 0, 0, 1), (0, 0, 1, 3), (0, 1, 0, 2), (0, 1, 1, 4), (1, 0, 0, 1), (1, 1, 0, 2),
                        (2, 0, 0, 1), (2, 1, 0, 2), (3, 0, 0, 3), (3, 1, 0, 4), (4, 0, 0, 3), (4, 1, 0, 4)), (1, 4))
-# The plain row of the document: it writes a 1 where the number of ones from there on is even, and not for a 0.
+# The plain row of the document: at each place it writes whether the number of ones behind it is odd.
 PARITY = Passes(1, 1, ((0, 1), (1, 0)), (0, 1), ((((0, 0), (1, 0)), ((0, 0), (1, 0))),))
 
 # Rows whose tables have just 60 states, and just 61.
@@ -29,6 +29,15 @@ SIXTY_ONE = Mayrow(1, 1, 6, (
     (2, 0, 0, 5), (2, 0, 1, 2), (2, 0, 1, 5), (2, 1, 0, 3), (2, 1, 1, 0), (3, 0, 0, 4), (3, 0, 1, 2), (3, 1, 0, 0),
     (3, 1, 0, 2), (3, 1, 1, 5), (4, 0, 1, 3), (4, 0, 1, 4), (4, 1, 1, 1), (5, 0, 0, 0), (5, 0, 0, 1), (5, 0, 1, 0),
     (5, 1, 0, 5), (5, 1, 1, 2)), (0, 3))
+
+
+def _letters(lasts, nexts):
+    return tuple([bool(last) for last in lasts]), nexts
+
+
+# What tells tables with just 60, and just 61, vectors of texts [7.5].
+SIXTY_VECTORS = _letters((0, 0, 1, 1, 0, 1), ((3, 1), (0, 4), (1, 5), (2, 3), (4, 0), (5, 1)))
+SIXTY_ONE_VECTORS = _letters((0, 1, 1, 1, 1, 1, 0), ((5, 4), (2, 2), (3, 1), (0, 3), (2, 5), (6, 0), (2, 5)))
 
 
 def random_row(seed, reads=1, writes=1, most=3):
@@ -113,6 +122,12 @@ def moves_table(reads, writes, lasts, moves):
     return Table.told(reads, writes, tuple([(last, tuple(row)) for last, row in zip([*lasts, False], rows)]))
 
 
+def letters_table(lasts, nexts):
+    """A table that writes noughts only; `nexts` has for each state the next ones by both letters."""
+    moves = [(at, letter, 0, following) for at, row in enumerate(nexts) for letter, following in enumerate(row)]
+    return moves_table(1, 1, lasts, moves)
+
+
 def register_table(delay, lasts):
     """A table with one answer letter more for each 1 that is read: it goes through places, and is last at some.
 
@@ -126,7 +141,7 @@ def register_table(delay, lasts):
 
 
 def counters_table(delay):
-    """A table of which the questions of the width 62 have 2000 - 16 + `delay` ... unlike vectors.
+    """A table of which the questions of the width 62 have 2016 unlike vectors less `delay`.
 
     The letter 0 leads to two counters, of the letters 1 and 2; the letter 1 leads, behind a delay, to one counter.
     """
@@ -138,6 +153,90 @@ def counters_table(delay):
         following = 4 if at == delay - 1 else 7 + at
         moves += [(6 + at, letter, 0, following) for letter in range(4)]
     return moves_table(2, 2, [False, True, True, True, True, True] + [False] * delay, moves)
+
+
+def parts_table(parts, places):
+    """A table with finitely many vectors: each of its letters leads to a part, which is a pair (base, steps).
+
+    A part puts, for each letter less than its base, so many tokens on one place, from which they go on for so many
+    steps. So it has base ** steps vectors, and ahead of them there is one more.
+    """
+    first = 1 + len(parts)
+    moves = []
+    for at, (base, steps) in enumerate(parts):
+        moves.append((0, at, 0, 1 + at))
+        for letter in range(4):
+            moves.append((1 + at, letter, 0, 1 + at))
+            moves += [(1 + at, letter, said, first + places - steps) for said in range(1, letter + 1) if letter < base]
+    moves += [(first + at, letter, 0, first + at + 1) for at in range(places - 1) for letter in range(4)]
+    return moves_table(2, 2, [False] * (first + places - 1) + [True], moves)
+
+
+def spread_table(delay):
+    """A table with 8 useful states and 2000 vectors, or with one more of both for the delay 1."""
+    moves = [(0, letter, 0, 1) for letter in range(4)] if delay else []
+    for letter, places in enumerate(((7,), (7, 2), (4, 2, 4), (1,))):
+        moves.append((delay, letter, 0, delay))
+        moves += [(delay, letter, said, delay + place) for said, place in zip((1, 2, 3), places)]
+        moves += [(delay + place, letter, 0, delay + place + 1) for place in range(1, 7)]
+    return moves_table(2, 2, [False] * (delay + 7) + [True], moves)
+
+
+def beats_table(tail, many):
+    """All pairs whose answers have a 1 at most at the places with the rest `tail` when divided by `many`.
+
+    Ahead of these there are `tail` places with other answers.
+    """
+    nexts = [at + 1 if at + 1 < tail + many else tail for at in range(tail + many)]
+    moves = [(at, letter, 0, nexts[at]) for at in range(tail + many) for letter in (0, 1)]
+    moves += [(tail, letter, 1, nexts[tail]) for letter in (0, 1)] + [(at, 1, 1, nexts[at]) for at in range(tail)]
+    return moves_table(1, 1, [True] * (tail + many), moves)
+
+
+def branches_table(many):
+    """A table in which questions that begin with 0 have one answer, and others up to any number of them.
+
+    Behind the letter 0 there are so many states.
+    """
+    nexts = [at + 1 if at < many else 1 for at in range(many + 1)]
+    moves = [(0, 0, 0, 1), (0, 1, 0, many + 1)]
+    for letter in (0, 1):
+        moves += [(at, letter, int(at == 1), nexts[at]) for at in range(1, many + 1)]
+        moves += [(many + 1, letter, 0, many + 2), (many + 2, letter, 0, many + 1), (many + 2, letter, 1, many + 1)]
+    return moves_table(1, 1, [True] * (many + 3), moves)
+
+
+def ring_passes(tail, many):
+    """A plain row that writes noughts, with `tail` left states and then a ring of left states."""
+    nexts = [at + 1 if at + 1 < tail + many else tail for at in range(tail + many)]
+    return Passes(1, 1, ((0, 0),), (0,), tuple([(((0, following),),) * 2 for following in nexts]))
+
+
+def last_passes(tail, many):
+    """The same with a right state for each last letter, and one for the end, where the left state 0 is taken."""
+    nexts = [at + 1 if at + 1 < tail + many else tail for at in range(tail + many)]
+    rows = tuple([(((0, 0), (0, following), (0, following)),) * 2 for following in nexts])
+    return Passes(1, 1, ((1, 2), (1, 1), (2, 2)), (0, 1, 2), rows)
+
+
+def rings_passes(tail, rings):
+    """A plain row that writes noughts, with one of four rings of left states for each last letter.
+
+    There are 1 + `tail` sets, and then as many as the least common multiple of the lengths of the rings, and the
+    empty set.
+    """
+    bases = [tail + sum(rings[:at]) for at in range(len(rings))]
+    rows = []
+    for left in range(tail + sum(rings)):
+        entry = [0]
+        for base, many in zip(bases, rings):
+            if left < tail:
+                entry.append(left + 1 if left + 1 < tail else base)
+            else:
+                entry.append(base + (left - base + 1) % many if base <= left < base + many else 0)
+        rows.append((tuple([(0, following) for following in entry]),) * 4)
+    rights = ((1, 2, 3, 4),) + tuple([(at,) * 4 for at in range(1, 5)])
+    return Passes(2, 1, rights, (0, 1, 2, 3, 4), tuple(rows))
 
 
 def random_passes(seed, reads=1, writes=1, most=3):

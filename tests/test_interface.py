@@ -18,12 +18,36 @@ FUNCTIONS = {
     "mayrows.table.ends": ("useful_states(table)", "least_pair(table)", "set_behind(table, question)",
                            "has_answer(table, question)", "following_set(table, states, letter)", "unanswered(table)",
                            "end_paper(table)", "is_end_paper(table, value)"),
+    "mayrows.count.counts": ("count_answers(table, question)", "count_pairs(table, width)", "pair_counts(table, width)",
+                             "recurrence(table)", "is_recurrence(table, value)"),
+    "mayrows.count.vectors": ("questions_with(table, number, width, *, at_least=False)",
+                              "least_with(table, number, *, at_least=False)"),
+    "mayrows.least.answers": ("answer_at(table, question, place)", "place_of(table, question, answer)",
+                              "answers_from(table, question, place=0)"),
+    "mayrows.least.passes": ("graph_of(passes)", "plain_row(table, place)", "pass_paper(passes, table)",
+                             "is_pass_paper(passes, table, value)", "first_paper(passes, table)",
+                             "is_first_paper(passes, table, value)"),
+    "mayrows.least.unions": ("union_of(*rows)", "gap_of(passes)", "plain_rows(table, number, *, total=False)",
+                             "is_union(table, value)", "union_paper(table, number)",
+                             "is_union_paper(table, number, value)"),
+    "mayrows.grow.growth": ("growth(table)", "most_answers(table)", "greatest(table, width)"),
+    "mayrows.grow.papers": ("growth_paper(table)", "is_growth_paper(table, value)"),
+    "mayrows.ahead.single": ("is_single(table)", "single_paper(table)", "is_single_paper(table, value)",
+                             "least_ahead(table)", "ahead_paper(table)", "is_ahead_paper(table, value)",
+                             "spoken(table, ahead, question)"),
 }
 CONSTANTS = {
     "mayrows.base.texts": {"MAX_WIDTH": 200},
     "mayrows.row.rows": {"MAX_STATES": 6, "MAX_CHOICES": 576, "MAX_ANSWERS": 1000},
     "mayrows.table.tables": {"MAX_STATES": 60},
     "mayrows.table.ends": {"MAX_SETS": 2000},
+    "mayrows.count.counts": {"MAX_USEFUL": 20, "MAX_TERMS": 200},
+    "mayrows.count.vectors": {"MAX_NUMBER": 100, "MAX_VECTORS": 2000},
+    "mayrows.least.passes": {"MAX_SIDE": 60, "MAX_PLACE": 3, "MAX_MET": 5000},
+    "mayrows.least.unions": {"MOST_ROWS": 4, "MOST_MET": 2000},
+    "mayrows.grow.growth": {"MAX_GROWN": 12},
+    "mayrows.grow.papers": {"MAX_SHOWN": 9},
+    "mayrows.ahead.single": {"MAX_USEFUL": 16},
 }
 CLASSES = {
     ("mayrows.row.rows", "Mayrow(reads, writes, states, choices, lasts)"): (
@@ -31,7 +55,12 @@ CLASSES = {
         "also_with(self, *, choices=(), lasts=())"),
     ("mayrows.table.tables", "Table"): (
         "of(row)", "told(reads, writes, rows)", "pairs(self, width)", "as_row(self)"),
+    ("mayrows.least.passes", "Passes(reads, writes, rights, starts, lefts)"): (
+        "by_letters(reads, writes, letters)", "right_state(self, question)", "__call__(self, question)",
+        "__contains__(self, value)", "__len__(self)", "__eq__(self, other)", "__str__(self)"),
 }
+GENERATORS = ("mayrows.base.texts.texts_of", "mayrows.count.counts.pair_counts", "mayrows.least.answers.answers_from",
+              "mayrows.ahead.single.spoken")
 
 
 class InterfaceTest(unittest.TestCase):
@@ -59,6 +88,24 @@ class InterfaceTest(unittest.TestCase):
                 name = method.partition("(")[0]
                 self.assertIn(name, vars(owner))
                 self.assertEqual(name + str(inspect.signature(getattr(owner, name))), method)
+
+    def test_properties(self):
+        for module_name, name, told in (
+                ("mayrows.row.rows", "Mayrow", ("reads", "writes", "states", "choices", "lasts")),
+                ("mayrows.table.tables", "Table", ("reads", "writes", "rows")),
+                ("mayrows.least.passes", "Passes", ("reads", "writes", "rights", "starts", "lefts"))):
+            owner = getattr(importlib.import_module(module_name), name)
+            for one in told:
+                self.assertIsInstance(vars(owner)[one], property)
+
+    def test_generators(self):
+        for told in GENERATORS:
+            module_name, _, name = told.rpartition(".")
+            self.assertTrue(inspect.isgeneratorfunction(getattr(importlib.import_module(module_name), name)))
+
+    def test_passes_has_a_class_method(self):
+        owner = importlib.import_module("mayrows.least.passes").Passes
+        self.assertIsInstance(vars(owner)["by_letters"], classmethod)
 
     def test_table_has_class_methods(self):
         owner = importlib.import_module("mayrows.table.tables").Table
