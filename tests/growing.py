@@ -193,8 +193,8 @@ def open_splits(table):
         found = wider
 
 
-def least_double(table, widths):
-    """The least question with two answers, if it is not wider than this, or `None`."""
+def least_double(table):
+    """The least question with two answers, or `None`."""
     for question, held in counting.met_vectors(table, 2):
         if counting.answers_told(table, held) > 1:
             return question

@@ -155,6 +155,52 @@ def counters_table(delay):
     return moves_table(2, 2, [False, True, True, True, True, True] + [False] * delay, moves)
 
 
+def ones_table(power):
+    """A table that writes at most so many ones, where ones are read."""
+    moves = [(at, letter, 0, at) for at in range(power + 1) for letter in (0, 1)]
+    moves += [(at, 1, 1, at + 1) for at in range(power)]
+    return moves_table(1, 1, [True] * (power + 1), moves)
+
+
+def chain_table(rings):
+    """A table of rings of these lengths; a 1 is written where the begin of one leads on to the next one."""
+    bases = [sum(rings[:at]) for at in range(len(rings) + 1)]
+    moves = []
+    for at, many in enumerate(rings):
+        for letter in (0, 1):
+            moves += [(bases[at] + place, letter, 0, bases[at] + (place + 1) % many) for place in range(many)]
+            if at + 1 < len(rings):
+                moves.append((bases[at], letter, 1, bases[at + 1]))
+    return moves_table(1, 1, [place == bases[-2] for place in range(bases[-1])], moves)
+
+
+def late_table(many):
+    """A single table that looks just so many letters ahead, and no fewer, with 2 * `many` + 2 useful states.
+
+    The first answer letter is the letter that stands so many places later; all others are noughts.
+    """
+    end = 2 * many + 1
+    moves = [(0, letter, answer, 1 + answer * many) for letter, answer in ((0, 0), (0, 1), (1, 0), (1, 1))]
+    for answer in (0, 1):
+        first = 1 + answer * many
+        moves += [(first + at, letter, 0, first + at + 1) for at in range(many - 1) for letter in (0, 1)]
+        moves.append((first + many - 1, answer, 0, end))
+    moves += [(end, letter, 0, end) for letter in (0, 1)]
+    return moves_table(1, 1, [at == end for at in range(end + 1)], moves)
+
+
+def rings_table(one, two):
+    """A single table that looks no number of letters ahead: one of two rings is chosen by the first answer letter.
+
+    The letter 2 leads out of the first ring, and the letter 3 out of the second one, from one state of each.
+    """
+    end = one + two + 1
+    moves = [(0, 0, 0, 1), (0, 0, 1, 1 + one), (1, 2, 0, end), (1 + one, 3, 0, end)]
+    moves += [(1 + at, letter, 0, 1 + (at + 1) % one) for at in range(one) for letter in (0, 1)]
+    moves += [(1 + one + at, letter, 0, 1 + one + (at + 1) % two) for at in range(two) for letter in (0, 1)]
+    return moves_table(2, 1, [at == end for at in range(end + 1)], moves)
+
+
 def parts_table(parts, places):
     """A table with finitely many vectors: each of its letters leads to a part, which is a pair (base, steps).
 
