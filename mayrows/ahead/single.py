@@ -3,9 +3,9 @@
 from mayrows.ahead.splits import begin_splits, has_two_lasts, open_splits, split_of, split_ranks, splits_after
 from mayrows.base.checks import MOST_INTEGER, are_ascending, are_tuples_below, check_ahead, is_number
 from mayrows.base.texts import check_returned, check_text
-from mayrows.errors import InvalidOperation, TooMany
+from mayrows.errors import InvalidOperation
 from mayrows.least.answers import answer_at
-from mayrows.table.moves import Moves
+from mayrows.table.moves import Moves, few_moves
 from mayrows.table.tables import check_table, is_pair, state_behind
 from mayrows.table.walks import Couples, Walkers, least_walk, way_to
 
@@ -14,12 +14,12 @@ MAX_USEFUL = 16
 
 def is_single(table):
     """Whether no question has more than one answer."""
-    return _is_single(_few_moves(table))
+    return _is_single(few_moves(table, MAX_USEFUL))
 
 
 def single_paper(table):
     """A paper that the table is single, or the least question with two answers."""
-    moves = _few_moves(table)
+    moves = few_moves(table, MAX_USEFUL)
     splits = open_splits(moves)
     if any([has_two_lasts(moves, split) for split in splits]):
         goals = {(one, two, 1): True for one in moves.last_places for two in moves.last_places}
@@ -30,7 +30,7 @@ def single_paper(table):
 
 def is_single_paper(table, value):
     """Whether the value is a single paper of the table."""
-    moves = _few_moves(table)
+    moves = few_moves(table, MAX_USEFUL)
     if not isinstance(value, tuple):
         return False
     if len(value) == 2 and value[0] == "single":
@@ -91,16 +91,8 @@ def spoken(table, ahead, question):
         yield seen, str(step[0])
 
 
-def _few_moves(table):
-    check_table(table)
-    moves = Moves(table)
-    if len(moves.useful) > MAX_USEFUL:
-        raise TooMany(MAX_USEFUL)
-    return moves
-
-
 def _single_moves(table):
-    moves = _few_moves(table)
+    moves = few_moves(table, MAX_USEFUL)
     if not _is_single(moves):
         raise InvalidOperation("some question has two answers")
     return moves
@@ -126,7 +118,7 @@ def _never_paper(moves, ranks):
     every = (1 << len(moves.useful)) - 1
     walkers = Walkers(moves, (every, every))
     found = [least_walk(walkers, split, {split: True}) for split in open_splits(moves) if split not in ranks]
-    ring, split = min([walk for walk in found if walk is not None], key=lambda walk: len(walk[0][0]))
+    ring, split = min([walk for walk in found if walk is not None], key=lambda one: len(one[0][0]))
     check_returned(ring[0])
     start, _ = least_walk(Couples(moves), (0, 0, 0), {split + (1,): True})
     ends = [way_to(moves, place, moves.last_places) for place in split]

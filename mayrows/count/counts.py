@@ -3,8 +3,7 @@
 from mayrows.base.checks import is_integer
 from mayrows.base.texts import check_text, check_width
 from mayrows.count.rests import rest_counts
-from mayrows.errors import TooMany
-from mayrows.table.moves import Moves
+from mayrows.table.moves import Moves, few_moves
 from mayrows.table.tables import check_table
 
 MAX_USEFUL = 20
@@ -41,11 +40,7 @@ def pair_counts(table, width):
 
 def recurrence(table):
     """A recurrence of the table, as long as it has useful states."""
-    check_table(table)
-    moves = Moves(table)
-    if len(moves.useful) > MAX_USEFUL:
-        raise TooMany(MAX_USEFUL)
-    return _recurrence_of(_step_counts(moves))
+    return _recurrence_of(_step_counts(few_moves(table, MAX_USEFUL)))
 
 
 def is_recurrence(table, value):

@@ -3,6 +3,8 @@
 States are told by their places among the useful ones. A table that does not double is looked at.
 """
 
+from mayrows.base.reach import reached_from
+
 
 def heights_of(moves, reached):
     """For each place, how many places with parallel moves are reached from it."""
@@ -40,7 +42,7 @@ def numbers_of(moves, ranks):
     numbers = {triple: 0 for triple in triples_of(ranks)}
     for one, two, three in triples_of(ranks):
         if one != two and two == three:
-            for triple in _triples_leading_to(befores, (one, two, three)):
+            for triple in reached_from(befores, (one, two, three)):
                 numbers[triple] += 1
     return numbers
 
@@ -60,18 +62,3 @@ def _triples_before(moves, ranks):
         if triple[0] == triple[1] and triple[1] != triple[2]:
             befores[triple].append((triple[0], triple[2], triple[2]))
     return befores
-
-
-def _triples_leading_to(befores, triple):
-    """All triples that lead to a triple, this one among them."""
-    met = [triple]
-    known = {triple: True}
-    at = 0
-    while at < len(met):
-        nexts = befores[met[at]]
-        for before in nexts:
-            if before not in known:
-                known[before] = True
-                met.append(before)
-        at += 1
-    return met

@@ -5,7 +5,7 @@ from mayrows.count.questions import QuestionVectors, met_vectors
 from mayrows.count.vectors import MAX_VECTORS
 from mayrows.errors import TooMany
 from mayrows.grow.ways import Passages, doubling_of
-from mayrows.table.moves import Moves
+from mayrows.table.moves import few_moves
 from mayrows.table.tables import check_table
 
 MAX_GROWN = 12
@@ -13,10 +13,7 @@ MAX_GROWN = 12
 
 def growth(table):
     """How the table grows: `("most", k)`, `("power", d)` or `("doubling",)`."""
-    check_table(table)
-    moves = Moves(table)
-    if len(moves.useful) > MAX_GROWN:
-        raise TooMany(MAX_GROWN)
+    moves = few_moves(table, MAX_GROWN)
     if doubling_of(moves) is not None:
         return ("doubling",)
     power = Passages(moves).power()

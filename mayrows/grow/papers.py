@@ -6,12 +6,11 @@ from mayrows.base.texts import check_returned, is_text
 from mayrows.count.counts import count_answers
 from mayrows.count.questions import QuestionVectors
 from mayrows.count.vectors import MAX_VECTORS
-from mayrows.errors import TooMany
 from mayrows.grow.bounds import heights_of, numbers_of, triples_after, triples_of
 from mayrows.grow.growth import most_told
 from mayrows.grow.ways import Passages, doubling_of
-from mayrows.table.moves import Moves
-from mayrows.table.tables import check_table, is_pair, state_behind
+from mayrows.table.moves import few_moves
+from mayrows.table.tables import is_pair, state_behind
 from mayrows.table.walks import reached_places, way_to
 
 MAX_SHOWN = 9
@@ -19,7 +18,7 @@ MAX_SHOWN = 9
 
 def growth_paper(table):
     """A paper that shows how the table grows."""
-    moves = _shown_moves(table)
+    moves = few_moves(table, MAX_SHOWN)
     doubling = doubling_of(moves)
     if doubling is not None:
         place, texts = doubling
@@ -34,7 +33,7 @@ def growth_paper(table):
 
 def is_growth_paper(table, value):
     """Whether the value is a growth paper of the table."""
-    moves = _shown_moves(table)
+    moves = few_moves(table, MAX_SHOWN)
     if not isinstance(value, tuple) or len(value) == 0:
         return False
     if value[0] == "most":
@@ -42,14 +41,6 @@ def is_growth_paper(table, value):
     if value[0] == "power":
         return len(value) == 5 and _are_steps(table, value[1]) and _is_bound(moves, len(value[1]) // 2, value[2:])
     return value[0] == "doubling" and len(value) == 4 and _is_doubling(table, value[1], value[2], value[3])
-
-
-def _shown_moves(table):
-    check_table(table)
-    moves = Moves(table)
-    if len(moves.useful) > MAX_SHOWN:
-        raise TooMany(MAX_SHOWN)
-    return moves
 
 
 def _power_paper(moves, passages):
@@ -60,7 +51,7 @@ def _power_paper(moves, passages):
         place = second
     steps.append(way_to(moves, place, moves.last_places))
     ranks = passages.ranks()
-    numbers = [(tuple([moves.useful[place] for place in triple]), number)
+    numbers = [(tuple([moves.useful[one] for one in triple]), number)
                for triple, number in numbers_of(moves, ranks).items()]
     return ("power", tuple(steps), ranks, heights_of(moves, reached_places(moves)), tuple(sorted(numbers)))
 

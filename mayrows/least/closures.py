@@ -8,14 +8,18 @@ from mayrows.base.checks import are_ascending, are_tuples_below
 from mayrows.least.sides import met_rights, rights_before
 
 
-class Triples:
-    """Which triples follow one another: the table reads what the plain row writes."""
+class Nodes:
+    """What both kinds of nodes are made of."""
 
     def __init__(self, passes, table):
         self._passes = passes
         self._rows = table.rows
         self._writes = table.writes
         self._befores = rights_before(passes.rights)
+
+
+class Triples(Nodes):
+    """Which triples follow one another: the table reads what the plain row writes."""
 
     def bounds(self):
         """How many values each member of a triple can have."""
@@ -40,14 +44,8 @@ class Triples:
         return node[2] == 0 and not self._rows[node[1]][0]
 
 
-class Quadruples:
+class Quadruples(Nodes):
     """Which quadruples follow one another: the mark is 1 where the table's answer is ahead of the plain row's."""
-
-    def __init__(self, passes, table):
-        self._passes = passes
-        self._rows = table.rows
-        self._writes = table.writes
-        self._befores = rights_before(passes.rights)
 
     def bounds(self):
         """How many values each member of a quadruple can have."""

@@ -3,7 +3,7 @@
 Here a set is a tuple with the left state beside each right state, or -1 if there is none.
 """
 
-from mayrows.errors import TooMany
+from mayrows.base.reach import Numbers
 from mayrows.least.sides import met_rights, rights_before
 
 
@@ -44,19 +44,11 @@ class Sets:
 def graph_rows(plain, most):
     """The rows that have a state for each met tuple of sets; more than `most` tuples raise `TooMany`."""
     sides = [Sets(passes) for passes in plain]
-    met = [tuple([side.first_set() for side in sides])]
-    places = {met[0]: 0}
+    numbers = Numbers(tuple([side.first_set() for side in sides]), most)
     rows = []
-    while len(rows) < len(met):
-        held = met[len(rows)]
-        nexts = []
-        for following in _tuples_after(sides, held):
-            if following not in places:
-                places[following] = len(met)
-                met.append(following)
-            nexts.append(places[following])
-        if len(met) > most:
-            raise TooMany(most)
+    while len(rows) < len(numbers.met):
+        held = numbers.met[len(rows)]
+        nexts = [numbers.number_of(following) for following in _tuples_after(sides, held)]
         # Behind the whole question stands the right state 0.
         rows.append((any([one[0] >= 0 for one in held]), tuple(nexts)))
     return rows

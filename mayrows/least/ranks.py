@@ -3,7 +3,7 @@
 Here states are told by their places among the useful ones.
 """
 
-from mayrows.errors import TooMany
+from mayrows.base.reach import Numbers
 from mayrows.table.moves import Moves
 
 
@@ -22,45 +22,30 @@ def plain_sides(table, place, total, most):
 
 def _text_vectors(moves, most_told, most):
     """The list of the vectors of all texts, and for each one the tuple of the places of those by one letter ahead."""
-    vectors = [tuple([int(place in moves.last_places) for place in range(len(moves.useful))])]
-    places = {vectors[0]: 0}
+    numbers = Numbers(tuple([int(place in moves.last_places) for place in range(len(moves.useful))]), most)
     rows = []
-    while len(rows) < len(vectors):
-        vector = vectors[len(rows)]
+    while len(rows) < len(numbers.met):
+        vector = numbers.met[len(rows)]
         nexts = []
         for row in moves.by_letter:
-            longer = tuple([min(most_told, sum([vector[following] for _, following in steps])) for steps in row])
-            if longer not in places:
-                places[longer] = len(vectors)
-                vectors.append(longer)
-            nexts.append(places[longer])
-        if len(vectors) > most:
-            raise TooMany(most)
+            longer = [min(most_told, sum([vector[following] for _, following in steps])) for steps in row]
+            nexts.append(numbers.number_of(tuple(longer)))
         rows.append(tuple(nexts))
-    return vectors, tuple(rows)
+    return numbers.met, tuple(rows)
 
 
 def _rank_rows(moves, vectors, place, total, most):
     """The rows of the left states, one for each rank."""
-    ranks = [(0, place)]
-    places = {ranks[0]: 0}
+    numbers = Numbers((0, place), most)
     lefts = []
-    while len(lefts) < len(ranks):
-        state, many = ranks[len(lefts)]
+    while len(lefts) < len(numbers.met):
+        state, many = numbers.met[len(lefts)]
         row = []
         for letter in range(moves.letters):
             steps = moves.by_letter[letter][state] if moves.useful else ()
-            entry = []
-            for vector in vectors:
-                answer, rank = _led_on(steps, vector, many, total)
-                # Where a rank is not led on, nothing is ever written: any entry will do.
-                if rank is not None and rank not in places:
-                    places[rank] = len(ranks)
-                    ranks.append(rank)
-                entry.append((answer, 0 if rank is None else places[rank]))
-            row.append(tuple(entry))
-        if len(ranks) > most:
-            raise TooMany(most)
+            led = [_led_on(steps, vector, many, total) for vector in vectors]
+            # Where a rank is not led on, nothing is ever written: any entry will do.
+            row.append(tuple([(answer, 0 if rank is None else numbers.number_of(rank)) for answer, rank in led]))
         lefts.append(tuple(row))
     return tuple(lefts)
 

@@ -1,19 +1,11 @@
 """The right states of plain rows that are met [7.2]."""
 
+from mayrows.base.reach import reached_from
+
 
 def met_rights(rights):
     """The ascending tuple of the right states of all texts."""
-    met = [0]
-    known = {0: True}
-    at = 0
-    while at < len(met):
-        nexts = rights[met[at]]
-        for following in nexts:
-            if following not in known:
-                known[following] = True
-                met.append(following)
-        at += 1
-    return tuple(sorted(met))
+    return tuple(sorted(reached_from(rights, 0)))
 
 
 def rights_before(rights):

@@ -1,5 +1,6 @@
 """The moves between the useful states of a table [0.12, 9.1]."""
 
+from mayrows.errors import TooMany
 from mayrows.table.ends import useful_states
 
 
@@ -18,6 +19,14 @@ class Moves:
         # For each letter and each place the pairs (answer letter, place behind it), ascending.
         self.by_letter = tuple([tuple([_steps(table, places, state, letter) for state in kept])
                                 for letter in range(self.letters)])
+
+
+def few_moves(table, most):
+    """The moves of a table; an error if it is none, or if it has more than `most` useful states."""
+    moves = Moves(table)
+    if len(moves.useful) > most:
+        raise TooMany(most)
+    return moves
 
 
 def _steps(table, places, state, letter):

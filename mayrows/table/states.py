@@ -3,6 +3,7 @@
 Here rows are a sequence of pairs (last, nexts), as in a table.
 """
 
+from mayrows.base.reach import reached_from
 from mayrows.errors import TooMany
 
 # Which pairs (first is a last state, second is a last state) make a pair of states a last one.
@@ -14,17 +15,7 @@ ONE_ONLY = ((True, False), (False, True))
 
 def met_states(rows, start=0):
     """The states that are reached from the first one, in the order in which they are met."""
-    met = [start]
-    known = {start: True}
-    at = 0
-    while at < len(met):
-        nexts = rows[met[at]][1]
-        for following in nexts:
-            if following not in known:
-                known[following] = True
-                met.append(following)
-        at += 1
-    return met
+    return reached_from([nexts for last, nexts in rows], start)
 
 
 def met_rows(rows, start=0):
