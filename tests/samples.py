@@ -155,6 +155,17 @@ def counters_table(delay):
     return moves_table(2, 2, [False, True, True, True, True, True] + [False] * delay, moves)
 
 
+def tokens_table(places, is_answered):
+    """A table that puts as many tokens on the first place as the letter tells; they go on, and the last place is last.
+
+    If `is_answered`, each question has one more answer, of noughts.
+    """
+    moves = [(0, letter, 0, 0) for letter in range(4)]
+    moves += [(0, letter, said, 1) for letter in range(4) for said in range(1, letter + 1)]
+    moves += [(at, letter, 0, at + 1) for at in range(1, places) for letter in range(4)]
+    return moves_table(2, 2, [is_answered] + [at == places for at in range(1, places + 1)], moves)
+
+
 def ones_table(power):
     """A table that writes at most so many ones, where ones are read."""
     moves = [(at, letter, 0, at) for at in range(power + 1) for letter in (0, 1)]

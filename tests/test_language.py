@@ -44,6 +44,30 @@ def module_name(path):
     return ".".join(parts[:-1] if parts[-1] == "__init__" else parts)
 
 
+def is_call_of(node, name):
+    """Whether the node is a call of this name."""
+    return isinstance(node, ast.Call) and getattr(node.func, "id", None) == name
+
+
+def is_stored(node):
+    """Whether the name is assigned there."""
+    return isinstance(node.ctx, ast.Store)
+
+
+def assigned_names(function):
+    """The names that a function assigns by statements and loops, not by comprehensions."""
+    found = []
+    for node in ast.walk(function):
+        if isinstance(node, ast.Assign):
+            targets = node.targets
+        elif isinstance(node, (ast.AugAssign, ast.For)):
+            targets = [node.target]
+        else:
+            continue
+        found += [one.id for target in targets for one in ast.walk(target) if isinstance(one, ast.Name) and is_stored(one)]
+    return found
+
+
 def bound_names(tree):
     """The names of a module's level, one for each binding."""
     found = []
@@ -189,6 +213,61 @@ class ExpressionsTest(unittest.TestCase):
             self.assertNotIsInstance(node.iter, (ast.Set, ast.SetComp), path)
             is_set = isinstance(node.iter, ast.Call) and getattr(node.iter.func, "id", None) == "set"
             self.assertFalse(is_set, path)
+
+    def test_stored_sets(self):
+        for path, function in nodes(ast.FunctionDef):
+            stored = [node.targets[0].id for node in ast.walk(function) if isinstance(node, ast.Assign)
+                      and (isinstance(node.value, (ast.Set, ast.SetComp)) or is_call_of(node.value, "set"))]
+            for name in stored:
+                bound = [node for node in ast.walk(function) if isinstance(node, ast.Name) and node.id == name
+                         and isinstance(node.ctx, ast.Store)]
+                self.assertEqual(len(bound), 1, (path, name))
+                for node in ast.walk(function):
+                    # A set is only looked into, measured and sorted.
+                    if isinstance(node, ast.Call) and any(getattr(part, "id", None) == name for part in node.args):
+                        self.assertIn(getattr(node.func, "id", None), ("len", "sorted"), (path, name))
+                    elif isinstance(node, (ast.Return, ast.For, ast.comprehension)):
+                        held = node.value if isinstance(node, ast.Return) else node.iter
+                        self.assertNotEqual(getattr(held, "id", None), name, path)
+
+    def test_loops_do_not_change_what_they_iterate_over(self):
+        for path, loop in nodes(ast.For):
+            names = {node.id for node in ast.walk(loop.iter) if isinstance(node, ast.Name)}
+            for node in [one for part in loop.body for one in ast.walk(part)]:
+                changed = []
+                if isinstance(node, ast.Call) and isinstance(node.func, ast.Attribute):
+                    if node.func.attr in ("append", "extend", "pop", "insert", "remove", "clear", "update", "reverse"):
+                        changed.append(node.func.value)
+                elif isinstance(node, (ast.Assign, ast.AugAssign)):
+                    targets = node.targets if isinstance(node, ast.Assign) else [node.target]
+                    changed += [target.value for target in targets if isinstance(target, ast.Subscript)]
+                for value in changed:
+                    self.assertNotIn(getattr(value, "id", None), names, (path, node.lineno))
+
+    def test_lambdas_are_keys(self):
+        keys = [part.value for path, node in nodes(ast.Call) for part in node.keywords if part.arg == "key"]
+        for path, node in nodes(ast.Lambda):
+            self.assertIn(node, keys, (path, node.lineno))
+
+    def test_inner_variables_have_names_of_their_own(self):
+        for path, function in nodes(ast.FunctionDef):
+            kinds = (ast.ListComp, ast.SetComp, ast.DictComp)
+            found = [node for node in ast.walk(function) if isinstance(node, kinds)]
+            inside = [inner for node in found for inner in ast.walk(node) if isinstance(inner, kinds) and inner != node]
+            for node in inside:
+                for part in node.generators:
+                    names = {one.id for one in ast.walk(part.target) if isinstance(one, ast.Name)} - {"_"}
+                    self.assertEqual(names & set(assigned_names(function)), set(), (path, node.lineno))
+
+    def test_returns_of_double_underscore_methods(self):
+        for path, function in nodes(ast.FunctionDef):
+            returned = [node.value for node in ast.walk(function) if isinstance(node, ast.Return)]
+            if function.name == "__len__":
+                self.assertTrue(all(is_call_of(value, "len") for value in returned), path)
+            elif function.name == "__str__":
+                self.assertTrue(all(isinstance(value, ast.JoinedStr) for value in returned), path)
+            elif function.name == "__init__":
+                self.assertEqual(returned, [], path)
 
     def test_identity(self):
         for path, node in nodes(ast.Compare):

@@ -1,5 +1,7 @@
 """Points 7.6 and 7.7: papers on the answers of a plain row and those of a table."""
 
+from itertools import product
+
 from mayrows.count.vectors import least_with
 from mayrows.errors import InvalidOperation, InvalidPasses, InvalidTable
 from mayrows.least.passes import (Passes, first_paper, graph_of, is_first_paper, is_pass_paper, pass_paper, plain_row)
@@ -169,6 +171,18 @@ class FirstPaperTest(Checked):
                 self.assertIs(is_first_paper(row, table, value), counting.is_first_paper(row, table, value))
             greatest = ("first", counting.greatest_closed(row, table, 4))
             self.assertIs(is_first_paper(row, table, greatest), first_paper(row, table)[0] == "first")
+
+    def test_marks_are_0_and_1(self):
+        zeros = Passes.by_letters(1, 1, (0, 0))
+        for row, table in ((zeros, F), (zeros, C), (SAME, C)):
+            least = counting.least_closed(row, table, 4)
+            for mark in (-1, 2, 3, 10 ** 60):
+                for node in product((0,), range(len(table)), (0,), (mark,)):
+                    value = ("first", tuple(sorted(least + (node,))))
+                    self.assertIs(is_first_paper(row, table, value), False)
+            for node in product((0,), range(len(table)), (0,), (0, 1)):
+                value = ("first", tuple(sorted(set(least + (node,)))))
+                self.assertIs(is_first_paper(row, table, value), counting.is_first_paper(row, table, value))
 
     def test_5000_quadruples_and_one_more(self):
         few, many = (last_passes(1, 59), beats_table(0, 42)), (last_passes(0, 59), beats_table(1, 42))

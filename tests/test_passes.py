@@ -169,6 +169,11 @@ class ValuesTest(Checked):
                     self.assertRaisesThis(InvalidPasses, None, Passes, *value)
         self.assertGreater(wrong, 500)
 
+    def test_no_states(self):
+        self.assertRaisesThis(InvalidPasses, None, Passes, 1, 1, (), (), (((), ()),))
+        self.assertRaisesThis(InvalidPasses, None, Passes, 1, 1, ((0, 0),), (), ())
+        self.assertRaisesThis(InvalidPasses, None, Passes, 1, 1, (), (), ())
+
     def test_wrong_values_in_two_places(self):
         base = values_of(PARITY)
         for first in range(5):

@@ -2,6 +2,7 @@
 
 from mayrows.errors import InvalidNumber, InvalidPasses, InvalidTable
 from mayrows.least.answers import answer_at
+from mayrows.least.graphs import graph_rows
 from mayrows.least.passes import Passes, graph_of, plain_row
 from mayrows.least.ranks import plain_sides
 from mayrows.row.rows import Mayrow
@@ -75,6 +76,7 @@ class GraphTest(Checked):
             wider = Passes(row.reads, row.writes, rights, row.starts + (many, many + 2), lefts)
             self.assertEqual(graph_of(wider), graph_of(row))
             self.assertEqual(counting.set_tuples([wider]), counting.set_tuples([row]))
+            self.assertEqual(len(graph_rows((wider,), 5000)), counting.set_tuples([row], 5000))
 
     def test_two_thousand_sets_and_one_more(self):
         few, many = rings_passes(10, (9, 13, 17, 1)), rings_passes(11, (9, 13, 17, 1))

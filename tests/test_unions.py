@@ -16,7 +16,7 @@ from tests import counting, oracles
 from tests.checking import (Checked, spoilt, strangers, wrong_booleans, wrong_numbers, wrong_passes, wrong_tables)
 from tests.samples import (COPY, FREE, HALF, LATE, ODD, ONCE, PARITY, SIXTY_ONE_VECTORS, SIXTY_VECTORS, branched_table,
                            branches_table, letters_table, random_passes, random_table, register_table, ring_passes,
-                           round_table, widths_table)
+                           round_table, tokens_table, widths_table)
 
 C, F, O, L = Table.of(COPY), Table.of(FREE), Table.of(ONCE), Table.of(LATE)
 SAME, ZEROS, ONES = [Passes.by_letters(1, 1, letters) for letters in ((0, 1), (0, 0), (1, 1))]
@@ -371,6 +371,14 @@ class UnionPaperTest(Checked):
             else:
                 self.assertTooMany(2000, union_paper, table, 4)
             self.assertIs(is_union_paper(table, 4, ("many", "0" * delay + "11111000000")), True)
+
+    def test_greater_numbers_are_not_told_apart(self):
+        # Ahead of the question 200000 there are 2 * 3 ** 5 vectors up to the number 1, and 2 * 4 ** 5 other ones.
+        table = tokens_table(6, False)
+        self.assertEqual([[question for question, _ in counting.met_vectors(table, most)].index("200000")
+                          for most in (2, 3)], [486, 2048])
+        self.assertEqual(self.answer(union_paper, table, 1), ("many", "200000"))
+        self.assertTooMany(2000, union_paper, table, 2)
 
     def test_questions_of_more_than_200_letters(self):
         for width in (199, 200, 201, 300):

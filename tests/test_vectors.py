@@ -11,7 +11,7 @@ from mayrows.table.tables import Table
 from tests import counting, oracles
 from tests.checking import Checked, wrong_booleans, wrong_numbers, wrong_tables
 from tests.samples import (COPY, FREE, HALF, LATE, ODD, ONCE, branched_table, counters_table, parts_table, random_table,
-                           register_table, widths_table)
+                           register_table, tokens_table, widths_table)
 
 C, F, O, L = Table.of(COPY), Table.of(FREE), Table.of(ONCE), Table.of(LATE)
 
@@ -123,6 +123,7 @@ class QuestionsTest(Checked):
         self.assertEqual([len(counting.width_vectors(table, 62, 101)) for table in (few, many)], [2000, 2001])
         self.assertEqual(questions_with(few, 1, 62, at_least=True), 2 * 4 ** 61)
         self.assertEqual(questions_with(few, 0, 62), 2 * 4 ** 61)
+        self.assertEqual([questions_with(few, number, 62) for number in (62, 63, 100)], [2 ** 61, 0, 0])
         self.assertTooMany(2000, questions_with, few, 100, 63)
         self.assertTooMany(2000, questions_with, few, 100, 200)
         self.assertEqual(questions_with(many, 0, 61), 2 * 4 ** 60)
@@ -130,6 +131,13 @@ class QuestionsTest(Checked):
             self.assertTooMany(2000, questions_with, many, 100, width, at_least=True)
         # For lesser numbers there are fewer vectors, since greater numbers are not told apart.
         self.assertEqual(questions_with(many, 0, 200), 2 * 4 ** 199)
+
+    def test_greater_numbers_are_not_told_apart(self):
+        # At great widths all vectors of numbers up to the told one and 1 are there: 44 * 44 + 44 + 1 of them.
+        table = counters_table(1)
+        self.assertEqual(len(counting.width_vectors(table, 100, 43)), 1981)
+        self.assertGreater(questions_with(table, 42, 200), 0)
+        self.assertTooMany(2000, questions_with, table, 43, 200)
 
     def test_many_vectors_of_several_widths(self):
         # No width has more than three vectors, but all of them together have more than 2000.
@@ -195,6 +203,13 @@ class LeastTest(Checked):
                 self.assertTooMany(2000, least_with, table, 5)
                 self.assertTooMany(2000, least_with, table, 5, at_least=True)
             self.assertEqual(least_with(table, 4), "0" * delay + "1111000000")
+
+    def test_greater_numbers_are_not_told_apart(self):
+        table = tokens_table(10, True)
+        self.assertEqual(len(counting.met_vectors(table, 1)), 1024)
+        self.assertIsNone(least_with(table, 0))
+        self.assertIsNone(unanswered(table))
+        self.assertTooMany(2000, least_with, table, 100)
 
     def test_finitely_many_vectors(self):
         for last, many in ((3, 2000), (4, 2001)):

@@ -9,7 +9,7 @@ from mayrows.least.graphs import graph_rows
 from mayrows.least.ranks import plain_sides
 from mayrows.table.ends import MAX_SETS
 from mayrows.table.states import least_rows
-from mayrows.table.tables import MAX_STATES, Table, check_table, is_pair
+from mayrows.table.tables import MAX_STATES, Table, check_table
 
 MAX_SIDE = 60
 MAX_PLACE = 3
@@ -147,9 +147,7 @@ def is_first_paper(passes, table, value):
     if not isinstance(value, tuple):
         return False
     if len(value) == 3 and value[0] == "ahead":
-        if not is_pair(value[1:], table.reads, table.writes) or value[1] not in passes:
-            return False
-        return value[1:] in table and value[2] < passes(value[1])
+        return value[1] in passes and value[1:] in table and value[2] < passes(value[1])
     return len(value) == 2 and value[0] == "first" and are_closed(Quadruples(passes, table), value[1], MAX_MET)
 
 

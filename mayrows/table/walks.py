@@ -81,8 +81,9 @@ def reached_places(moves):
         for place, steps in enumerate(row):
             for _, following in steps:
                 reached[place] = reached[place] | 1 << following
-    for between in range(len(reached)):
-        for place in range(len(reached)):
+    places = range(len(moves.useful))
+    for between in places:
+        for place in places:
             if reached[place] >> between & 1:
                 reached[place] = reached[place] | reached[between]
     return reached
