@@ -59,6 +59,9 @@ def known_tables():
     side = [(0, 0, 0, 1), (0, 1, 0, 4), (1, 0, 0, 1), (1, 0, 1, 2), (2, 0, 0, 2), (2, 0, 1, 3), (3, 0, 0, 3),
             (4, 0, 0, 4), (4, 0, 1, 5), (5, 0, 0, 5), (5, 0, 1, 6)]
     yield moves_table(1, 1, [False, False, True, True, False, True, True], side), ("power", 2)
+    # The same, but what stands beside has the lesser states.
+    other_side = [(0, 1 - letter, answer, following) for state, letter, answer, following in side[:2]] + side[2:]
+    yield moves_table(1, 1, [False, False, True, True, False, True, True], other_side), ("power", 2)
 
 
 def some_tables():

@@ -2,6 +2,7 @@
 
 from itertools import product
 
+from mayrows.count.vectors import least_with
 from mayrows.errors import InvalidTable
 from mayrows.grow import papers
 from mayrows.grow.growth import growth
@@ -58,6 +59,7 @@ class ToldTest(Checked):
             self.assertIs(self.answer(is_growth_paper, table, paper), True)
             if way[0] == "most":
                 self.assertEqual(paper[1], way[1])
+                self.assertEqual(len(paper[2]), len(least_with(table, way[1])))
             elif way[0] == "power":
                 self.assertEqual(len(paper[1]), 2 * way[1] + 1)
         self.assertTrue(ways >= {"most", "doubling", ("power", 1), ("power", 2), ("power", 3), ("power", 8)})
@@ -196,6 +198,14 @@ class MadeTest(Checked):
         steps = paper[1]
         self.assertIs(is_right(ones_table(2), ("power", steps[:2] + steps[4:]) + paper[2:]), False)
         self.assertIs(is_right(ones_table(2), ("power", steps[:2] + steps) + paper[2:]), False)
+        # The last way is lacking, though all states are last ones.
+        self.assertIs(is_right(ones_table(2), ("power", steps[:4]) + paper[2:]), False)
+        self.assertIs(is_right(ones_table(2), paper), True)
+
+    def test_no_loops(self):
+        value = ("power", (("", ""),), (0,), (0,), (((0, 0, 0), 0),))
+        self.assertIs(is_right(C, value), False)
+        self.assertIs(is_right(C, ("power", ()) + value[2:]), False)
 
     def test_other_ranks(self):
         _, steps, ranks, heights, numbers = growth_paper(O)

@@ -56,13 +56,17 @@ class Passages:
         return None
 
     def _leads(self, place, other):
-        """Whether some pair leads from one place to the other one."""
-        return place == other or self._reached[place] >> other & 1 == 1
+        """Whether a pair of one letter or more leads from one place to the other one.
+
+        From each place of a passage such a pair leads to itself, so the pair of empty texts adds nothing.
+        """
+        return self._reached[place] >> other & 1 == 1
 
     def _loop_of(self, first, second):
         """The texts with which a passage from the first to the second place is shown, or `None`."""
-        if first == second or not self._reached[first] >> second & 1:
+        if first == second:
             return None
+        # Walks go through no other places, so they are found sooner.
         masks = (self._places_between(first, first), self._places_between(first, second),
                  self._places_between(second, second))
         found = least_walk(Walkers(self._moves, masks), (first, first, second), {(first, second, second): True})
