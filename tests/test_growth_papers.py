@@ -20,6 +20,11 @@ C, F, O, L = Table.of(COPY), Table.of(FREE), Table.of(ONCE), Table.of(LATE)
 PARALLEL = moves_table(1, 1, [False, True, True], [(0, 0, 0, 0), (0, 0, 1, 1), (1, 0, 0, 1), (1, 1, 0, 2), (1, 1, 1, 2)])
 
 
+# The same, but the state with these moves has no loop.
+PASSED = moves_table(1, 1, [False, True, True, True], [(0, 0, 0, 0), (0, 0, 1, 1), (1, 0, 0, 1), (1, 1, 0, 2),
+                                                       (2, 0, 0, 3), (2, 0, 1, 3)])
+
+
 def shown_tables():
     """Tables with at most nine useful states, each with its way to grow."""
     for table, way in known_tables():
@@ -28,6 +33,7 @@ def shown_tables():
     for table in some_tables():
         yield table, growth(table)
     yield PARALLEL, ("power", 1)
+    yield PASSED, ("power", 1)
 
 
 def is_right(table, value):

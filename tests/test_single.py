@@ -22,6 +22,16 @@ CLASH = (0, "00", "00", "01", "10")
 SWAP = moves_table(1, 1, [False, False, False, True],
                    [(0, 0, 0, 1), (0, 0, 1, 2), (1, 0, 0, 2), (2, 0, 0, 1), (1, 1, 0, 3)])
 
+# A short split begins ahead of a long one, from which a letter leads to the short one, too.
+FORKS = moves_table(1, 1, [False] * 7 + [True],
+                    [(0, 0, 0, 5), (0, 0, 1, 6), (0, 1, 0, 1), (0, 1, 1, 2), (1, 0, 0, 5), (2, 0, 0, 6), (1, 1, 0, 3),
+                     (2, 1, 0, 4), (3, 0, 1, 5), (4, 0, 0, 6), (5, 1, 0, 7), (6, 0, 1, 7)])
+# It reads two lines and writes one, and rings of the letter 2 are all that there are.
+TWOS = moves_table(2, 1, [False] * 3 + [True], [(0, 0, 0, 1), (0, 0, 1, 2), (1, 2, 0, 1), (2, 2, 0, 2), (1, 0, 0, 3),
+                                               (2, 1, 0, 3)])
+# The first answer letter is the second letter, and all questions have two letters.
+SHORT = moves_table(1, 1, [False] * 3 + [True], [(0, 0, 0, 1), (0, 0, 1, 2), (1, 0, 1, 3), (2, 1, 0, 3)])
+
 
 def few_answers_table(seed):
     """A table that often has one answer at most: each letter has few answer letters, and most states are last ones."""
@@ -44,7 +54,8 @@ def meeting_table(one, two):
 
 def known_tables():
     """Single tables, each with the least number of letters that must be seen ahead."""
-    yield from [(C, 0), (L, 1), (A, None), (behind(L, L), 2), (Table.of(HALF), 0), (Table.of(ODD), 0), (SWAP, None)]
+    yield from [(C, 0), (L, 1), (A, None), (behind(L, L), 2), (Table.of(HALF), 0), (Table.of(ODD), 0), (SWAP, None),
+                (FORKS, 3), (TWOS, None), (SHORT, 1)]
     for many in range(1, 8):
         yield late_table(many), many
     for one, two in ((1, 1), (1, 2), (2, 2), (2, 3), (3, 4), (5, 6), (7, 7), (6, 8), (3, 11)):
@@ -164,6 +175,16 @@ class SingleTest(Checked):
                 fewer = ("single", value[1][:at] + value[1][at + 1:])
                 self.assertIs(is_single_paper(table, fewer), growing.is_single_paper(table, fewer))
 
+    def test_no_split_with_two_last_states(self):
+        for table in tables():
+            splits = tuple(sorted(growing.open_splits(table)))
+            self.assertIs(is_single_paper(table, ("single", splits)), is_single(table))
+
+    def test_splits_in_their_order(self):
+        self.assertIs(is_single_paper(L, ("single", ((1, 2),))), True)
+        for value in (((1, 2), (2, 1)), ((2, 1),), ((1, 1), (1, 2)), ((1, 2), (1, 2)), ((1, 2), (2, 2))):
+            self.assertIs(is_single_paper(L, ("single", value)), False)
+
     def test_sixteen_useful_states_and_one_more(self):
         for many in (16, 17):
             made = [widths_table([at == many - 1 for at in range(many + 1)]), round_table(many, 3),
@@ -261,6 +282,29 @@ class AheadTest(Checked):
         # A split of one state twice, which no rank can be given, since it leads to itself behind the end.
         self.assertIs(is_ahead_paper(table, ("ahead", 2, tuple([pair + (1,) for pair in more]), clash)), False)
 
+    def test_rows_for_all_splits(self):
+        # From two equal states nothing is led on without end, since the questions of SHORT have two letters.
+        for table in (SHORT, FORKS):
+            kind, ahead, rows, clash = ahead_paper(table)
+            kept = oracles.useful(table)
+            right = 0
+            for split in [(one, two) for one in kept for two in kept]:
+                for rank in range(ahead + 2):
+                    more = {row[:2]: row[2] for row in rows}
+                    more[split] = rank
+                    value = (kind, ahead, tuple([pair + (more[pair],) for pair in sorted(more)]), clash)
+                    expected = growing.is_ahead_paper(table, value)
+                    right += expected
+                    self.assertIs(is_ahead_paper(table, value), expected)
+            self.assertGreater(right, ahead)
+        self.assertIs(is_ahead_paper(SHORT, ("ahead", 1, ((1, 2, 1), (4, 4, 1)), (0, "00", "01", "01", "10"))), True)
+
+    def test_the_index_of_a_clash(self):
+        self.assertEqual(SHORT.rows[0][0], False)
+        for clash, right in (((0, "00", "01", "01", "10"), True), ((-1, "00", "01", "01", "10"), False),
+                             ((1, "00", "01", "01", "10"), False), ((-2, "00", "01", "01", "10"), False)):
+            self.assertIs(is_ahead_paper(SHORT, ("ahead", 1, ((1, 2, 1),), clash)), right)
+
     def test_rows_with_other_ranks(self):
         for table, ahead in (late_table(2), 2), (late_table(3), 3), (behind(L, L), 2):
             _, _, rows, clash = ahead_paper(table)
@@ -284,6 +328,10 @@ class AheadTest(Checked):
                 self.assertIs(is_ahead_paper(A, paper), growing.is_ahead_paper(A, paper), paper)
         self.assertIs(is_ahead_paper(A, ("never", ("1", "1", "0"), ("0", "0", "0"), ("", "", "", ""))), False)
         self.assertIs(is_ahead_paper(A, base[:3] + (("1", "0", "", ""),)), False)
+        # The answers of the begin differ.
+        for table in (A, C, L):
+            for start in (("", "", ""), ("0", "0", "0"), ("1", "1", "1")):
+                self.assertIs(is_ahead_paper(table, ("never", start, ("0", "0", "0"), ("", "", "", ""))), False)
         self.assertIs(is_ahead_paper(A, base[:2] + (("0" * 200,) * 3,) + base[3:]), True)
 
     def test_behind_one_another(self):

@@ -3,15 +3,16 @@
 States are told by their places among the useful ones. A table that does not double is looked at.
 """
 
+from mayrows.base.masks import members_of
 from mayrows.base.reach import reached_from
 
 
-def heights_of(moves, reached):
-    """For each place, how many places with parallel moves are reached from it."""
-    places = range(len(moves.useful))
-    marked = [place for place in places if _has_parallel(moves, place)]
-    return tuple([len([other for other in marked if other == place or reached[place] >> other & 1])
-                  for place in places])
+def heights_of(reached):
+    """For each place, how many places are reached from it, itself among them.
+
+    There is no way back along parallel moves, so along them there are fewer.
+    """
+    return tuple([len(members_of(mask | 1 << place)) for place, mask in enumerate(reached)])
 
 
 def triples_of(ranks):
@@ -33,10 +34,10 @@ def triples_after(moves, ranks, triple):
 
 
 def numbers_of(moves, ranks):
-    """A dict with the number of each triple [9.5].
+    """A dict with the number of each triple [9.5]: how many triples (p, q, q) of unlike p and q are reached from it.
 
-    It is the number of the triples (p, q, q) that are come to from it, where from each of these one may go to
-    (p, p, q), too. There is no way back from there, since there is no passage between places of one rank.
+    What leads from (p, p, q) to such a triple leads there from (p, q, q), too. Only (p, q, q) itself is not reached
+    from (p, p, q), since there is no passage between places of one rank.
     """
     befores = _triples_before(moves, ranks)
     numbers = {triple: 0 for triple in triples_of(ranks)}
@@ -47,18 +48,10 @@ def numbers_of(moves, ranks):
     return numbers
 
 
-def _has_parallel(moves, place):
-    """Whether two moves by one letter lead from the place to one place."""
-    columns = [[following for _, following in row[place]] for row in moves.by_letter]
-    return any([len(set(column)) < len(column) for column in columns])
-
-
 def _triples_before(moves, ranks):
-    """For each triple those that lead to it, by a letter or from (p, q, q) to (p, p, q)."""
+    """For each triple those from which a letter leads to it."""
     befores = {triple: [] for triple in triples_of(ranks)}
     for triple in triples_of(ranks):
         for following in triples_after(moves, ranks, triple):
             befores[following].append(triple)
-        if triple[0] == triple[1] and triple[1] != triple[2]:
-            befores[triple].append((triple[0], triple[2], triple[2]))
     return befores

@@ -53,7 +53,7 @@ def _power_paper(moves, passages):
     ranks = passages.ranks()
     numbers = [(tuple([moves.useful[one] for one in triple]), number)
                for triple, number in numbers_of(moves, ranks).items()]
-    return ("power", tuple(steps), ranks, heights_of(moves, reached_places(moves)), tuple(sorted(numbers)))
+    return ("power", tuple(steps), ranks, heights_of(reached_places(moves)), tuple(sorted(numbers)))
 
 
 def _is_most(table, number, question, vectors):
