@@ -20,9 +20,9 @@ C, F, O, L = Table.of(COPY), Table.of(FREE), Table.of(ONCE), Table.of(LATE)
 PARALLEL = moves_table(1, 1, [False, True, True], [(0, 0, 0, 0), (0, 0, 1, 1), (1, 0, 0, 1), (1, 1, 0, 2), (1, 1, 1, 2)])
 
 
-# The same, but the state with these moves has no loop.
+# The same, but the state with these moves has no loop, and the one behind it has one.
 PASSED = moves_table(1, 1, [False, True, True, True], [(0, 0, 0, 0), (0, 0, 1, 1), (1, 0, 0, 1), (1, 1, 0, 2),
-                                                       (2, 0, 0, 3), (2, 0, 1, 3)])
+                                                       (2, 0, 0, 3), (2, 0, 1, 3), (3, 1, 0, 3)])
 
 
 def shown_tables():

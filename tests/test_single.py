@@ -275,6 +275,8 @@ class AheadTest(Checked):
             value = ("ahead", 1, ((1, 2, 1),), clash)
             self.assertIs(growing.is_ahead_paper(L, value), False)
             self.assertIs(is_ahead_paper(L, value), False)
+        for clash in (None, (1, "00", "00", "01", "01"), (0, "0", "0", "1", "1")):
+            self.assertIs(is_ahead_paper(C, ("ahead", -1, (), clash)), False)
         table = late_table(2)
         _, _, rows, clash = ahead_paper(table)
         self.assertEqual([row[2] for row in rows], [2, 1])
