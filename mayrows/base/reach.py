@@ -4,7 +4,7 @@ from mayrows.errors import TooMany
 
 
 class Numbers:
-    """Nodes that are numbered as they are met; more than `most` of them raise `TooMany`."""
+    """Nodes that are numbered as they are met; more than `most` of them, if this is not `None`, raise `TooMany`."""
 
     def __init__(self, first, most):
         self.met = [first]

@@ -53,17 +53,8 @@ class Mayrow:
     def answers(self, question):
         """All answers of the question, ascending."""
         check_text(question, self._reads)
-        hopes = self._hopes(question)
-        found = [("", 1 & hopes[0])] if 1 & hopes[0] else []
-        for letter, hope in zip(question, hopes[1:]):
-            first = int(letter) << self._writes
-            longer = [(text + str(mark), self._follows[first + mark][states] & hope)
-                      for text, states in found for mark in range(1 << self._writes)]
-            found = [(text, states) for text, states in longer if states]
-            # Each text here is the begin of at least one answer, and no answer has two of them.
-            if len(found) > MAX_ANSWERS:
-                raise TooMany(MAX_ANSWERS)
-        return tuple([text for text, states in found])
+        steps = [letter_sets(self._follows, self._writes, letter) for letter in question]
+        return written_texts(steps, self._states, self._lasts)
 
     def is_answer(self, question, answer):
         """Whether the question has this answer."""
@@ -116,14 +107,6 @@ class Mayrow:
     def __str__(self):
         return f"mayrow from {self._reads} to {self._writes} lines, {self._states} states, {len(self._choices)} choices"
 
-    def _hopes(self, question):
-        """For each place of the question, and behind it, the states from which the rest leads to a last one."""
-        hopes = [mask_of(self._lasts)]
-        for mark in question[::-1]:
-            moves = [(state, following) for state, letter, _, following in self._choices if letter == int(mark)]
-            hopes.append(mask_of([state for state, following in moves if hopes[-1] >> following & 1]))
-        return hopes[::-1]
-
 
 def check_row(row):
     """Raise `InvalidRow` unless `row` is a mayrow."""
@@ -142,6 +125,29 @@ def following_sets(reads, writes, states, choices):
         row = singles[(letter << writes) + answer]
         row[state] = row[state] | 1 << following
     return tuple([all_unions(row) for row in singles])
+
+
+def letter_sets(follows, writes, letter):
+    """What follows each set of states by a letter: the part of `following_sets` with all its answer letters."""
+    first = int(letter) << writes
+    return follows[first:first + (1 << writes)]
+
+
+def written_texts(steps, states, lasts):
+    """All texts that are written by walks to a last state, ascending; `steps` has `letter_sets` for each place."""
+    # For each place, and behind it, the states from which the rest leads to a last one.
+    hopes = [mask_of(lasts)]
+    for row in steps[::-1]:
+        hope = hopes[-1]
+        hopes.append(mask_of([state for state in range(states) if any([sets[1 << state] & hope for sets in row])]))
+    found = [("", 1)] if hopes[-1] & 1 else []
+    for row, hope in zip(steps, hopes[-2::-1]):
+        longer = [(text + str(mark), sets[held] & hope) for text, held in found for mark, sets in enumerate(row)]
+        found = [(text, held) for text, held in longer if held]
+        # Each text here is the begin of at least one answer, and no answer has two of them.
+        if len(found) > MAX_ANSWERS:
+            raise TooMany(MAX_ANSWERS)
+    return tuple([text for text, _ in found])
 
 
 def _are_choices(choices, reads, writes, states):

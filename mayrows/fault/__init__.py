@@ -1,0 +1,1 @@
+"""Rows of which one cell has other choices."""

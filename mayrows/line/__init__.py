@@ -1,0 +1,1 @@
+"""Which lines of a table tell which."""
