@@ -19,13 +19,18 @@ def parting(table, other_table):
     return least_pair_in(paired_rows(table.rows, other_table.rows, ONE_ONLY), table.writes)
 
 
+def least_beyond(table, other_table):
+    """The least pair of the first table that the second one has not, or `None`."""
+    _check_tables(table, other_table)
+    return least_pair_in(paired_rows(table.rows, other_table.rows, FIRST_ONLY), table.writes)
+
+
 def within_paper(table, other_table):
     """A paper that the first table is, or is not, within the second one."""
-    _check_tables(table, other_table)
-    rows = paired_rows(table.rows, other_table.rows, FIRST_ONLY)
-    pair = least_pair_in(rows, table.writes)
+    pair = least_beyond(table, other_table)
     if pair is not None:
         return ("beyond", pair[0], pair[1])
+    rows = paired_rows(table.rows, other_table.rows, FIRST_ONLY)
     many = len(other_table.rows)
     return ("within", tuple([divmod(state, many) for state in sorted(met_states(rows))]))
 

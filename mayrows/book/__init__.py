@@ -1,0 +1,1 @@
+"""Promises about named rows, and books that keep them."""

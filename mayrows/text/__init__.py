@@ -1,0 +1,1 @@
+"""Texts of rows, tables and books, and a shell."""
