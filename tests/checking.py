@@ -4,6 +4,8 @@ import copy
 import unittest
 from itertools import combinations
 
+from mayrows.ahead.players import Player
+from mayrows.book.books import Book
 from mayrows.errors import InvalidNumber, TooMany
 from mayrows.least.passes import Passes
 from mayrows.row.rows import Mayrow
@@ -22,7 +24,7 @@ def strangers():
             (), (0,), (True,), (None,), ("",), ((),), (0, 0, 0, 0), ((0, 0, 0, 0),), [], [0], [[0, 0, 0, 0]], ["0"],
             {}, {0: 0}, {"0": ()}, {(0, 0, 0): ((0, 0, 0),)}, deep_tuple, deep_list, deep_dict,
             COPY, LATE, Table.of(COPY), PARITY, (COPY, Table.of(LATE)), {"a": [COPY]}, (PARITY,),
-            [PARITY, PARITY]]
+            [PARITY, PARITY], Book(), Player(Table.of(LATE), 1), (Book(),)]
 
 
 def wrong_numbers(low, high):

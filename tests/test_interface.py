@@ -35,6 +35,24 @@ FUNCTIONS = {
     "mayrows.ahead.single": ("is_single(table)", "single_paper(table)", "is_single_paper(table, value)",
                              "least_ahead(table)", "ahead_paper(table)", "is_ahead_paper(table, value)",
                              "spoken(table, ahead, question)"),
+    "mayrows.ahead.games": ("can_answer(table, ahead)", "game_paper(table, ahead)",
+                            "is_game_paper(table, ahead, value)", "least_look(table)"),
+    "mayrows.ahead.players": (),
+    "mayrows.line.lines": ("tells(table, lines, line)", "told_lines(table, lines)", "keys(table)",
+                           "least_parted(table, lines, line)", "line_paper(table, lines, line)",
+                           "is_line_paper(table, lines, line, value)"),
+    "mayrows.fault.faults": ("broken_answers(row, fault, question, place)", "places_shown(row, fault, question)",
+                             "may_show(row, fault)", "surely_shows(row, fault)", "no_show_paper(row, fault)",
+                             "is_no_show_paper(row, fault, value)", "no_sure_paper(row, fault)",
+                             "is_no_sure_paper(row, fault, value)"),
+    "mayrows.book.promises": ("is_name(value)", "is_promise(value)", "names_of(promise)", "does_fit(promise, rows)",
+                              "does_hold(promise, rows)", "paper_against(promise, rows)",
+                              "is_paper_against(promise, rows, value)"),
+    "mayrows.book.books": (),
+    "mayrows.text.formats": ("write_row(row)", "write_table(table)", "write_passes(passes)", "write_promise(promise)",
+                             "write_book(book)", "read_row(text)", "read_table(text)", "read_passes(text)",
+                             "read_promise(text)", "read_book(text)", "read_any(text)", "view(table)"),
+    "mayrows.text.shell": (),
 }
 CONSTANTS = {
     "mayrows.base.texts": {"MAX_WIDTH": 200},
@@ -48,6 +66,12 @@ CONSTANTS = {
     "mayrows.grow.growth": {"MAX_GROWN": 12},
     "mayrows.grow.papers": {"MAX_SHOWN": 9},
     "mayrows.ahead.single": {"MAX_USEFUL": 16},
+    "mayrows.ahead.games": {"MAX_AHEAD": 3, "MAX_POSITIONS": 192},
+    "mayrows.line.lines": {"MAX_USEFUL": 20},
+    "mayrows.fault.faults": {"MAX_SETS": 2000},
+    "mayrows.book.promises": {"MOST_ANSWERS": 99, "MAX_NAME": 8},
+    "mayrows.book.books": {"MAX_NAMES": 12, "MAX_PROMISES": 16, "MAX_DEEDS": 40},
+    "mayrows.text.shell": {"MAX_LINE": 3000, "MAX_TERM": 40, "MAX_NOTED": 40, "MAX_SHOWN": 3},
 }
 CLASSES = {
     ("mayrows.row.rows", "Mayrow(reads, writes, states, choices, lasts)"): (
@@ -58,9 +82,23 @@ CLASSES = {
     ("mayrows.least.passes", "Passes(reads, writes, rights, starts, lefts)"): (
         "by_letters(reads, writes, letters)", "right_state(self, question)", "__call__(self, question)",
         "__contains__(self, value)", "__len__(self)", "__eq__(self, other)", "__str__(self)"),
+    ("mayrows.ahead.players", "Player(table, ahead)"): (
+        "ask(self, letter)", "end(self)", "twin(self)", "__call__(self, question)", "__len__(self)",
+        "__eq__(self, other)", "__str__(self)"),
+    ("mayrows.ahead.players", "Asker(table, ahead)"): ("ask(self)", "hear(self, said)", "__str__(self)"),
+    ("mayrows.book.books", "Book()"): (
+        "put(self, name, row)", "take_out(self, name)", "promise(self, promise)", "take_back(self, promise)",
+        "do(self, deeds)", "lot(self)", "would(self, deeds)", "undo(self, many=1)", "at(self, version)",
+        "follows(self, promise)", "table_of(self, name)", "__getitem__(self, name)", "__contains__(self, value)",
+        "__iter__(self)", "__len__(self)", "__eq__(self, other)", "__str__(self)"),
+    ("mayrows.book.books", "Lot"): (
+        "put(self, name, row)", "take_out(self, name)", "promise(self, promise)", "take_back(self, promise)",
+        "end(self)", "drop(self)", "__enter__(self)", "__exit__(self, kind, value, trace)"),
+    ("mayrows.text.shell", "Shell(book=None)"): (
+        "__call__(self, line)", "run_all(self, *lines)", "book(self)", "__len__(self)", "__str__(self)"),
 }
 GENERATORS = ("mayrows.base.texts.texts_of", "mayrows.count.counts.pair_counts", "mayrows.least.answers.answers_from",
-              "mayrows.ahead.single.spoken")
+              "mayrows.ahead.single.spoken", "mayrows.text.shell.Shell.run_all")
 
 
 class InterfaceTest(unittest.TestCase):
@@ -93,15 +131,23 @@ class InterfaceTest(unittest.TestCase):
         for module_name, name, told in (
                 ("mayrows.row.rows", "Mayrow", ("reads", "writes", "states", "choices", "lasts")),
                 ("mayrows.table.tables", "Table", ("reads", "writes", "rows")),
-                ("mayrows.least.passes", "Passes", ("reads", "writes", "rights", "starts", "lefts"))):
+                ("mayrows.least.passes", "Passes", ("reads", "writes", "rights", "starts", "lefts")),
+                ("mayrows.ahead.players", "Player", ("table", "ahead", "question", "said", "is_over")),
+                ("mayrows.ahead.players", "Asker", ("table", "ahead", "question", "said", "awaited", "is_over")),
+                ("mayrows.book.books", "Book", ("names", "promises", "version", "touched", "judged")),
+                ("mayrows.book.books", "Lot", ("is_open",)),
+                ("mayrows.text.shell", "Shell", ("noted", "log"))):
             owner = getattr(importlib.import_module(module_name), name)
             for one in told:
                 self.assertIsInstance(vars(owner)[one], property)
 
     def test_generators(self):
         for told in GENERATORS:
-            module_name, _, name = told.rpartition(".")
-            self.assertTrue(inspect.isgeneratorfunction(getattr(importlib.import_module(module_name), name)))
+            module_name, *names = told.rsplit(".", 2 if "Shell" in told else 1)
+            found = importlib.import_module(module_name)
+            for name in names:
+                found = getattr(found, name)
+            self.assertTrue(inspect.isgeneratorfunction(found))
 
     def test_passes_has_a_class_method(self):
         owner = importlib.import_module("mayrows.least.passes").Passes

@@ -90,11 +90,7 @@ class Player:
 
     def __call__(self, question):
         check_text(question, self._table.reads)
-        player = Player(self._table, self._ahead)
-        for letter in question:
-            player.ask(letter)
-        player.end()
-        return player.said
+        return self._game.answer(question)
 
     def __len__(self):
         return len(self._waiting)

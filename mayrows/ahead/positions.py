@@ -62,6 +62,17 @@ class Game:
         """The text of these answer letters, one for each letter."""
         return "".join([self.reply(spot, str(letter)) for letter in range(len(self._nexts[spot]))])
 
+    def answer(self, question):
+        """What is answered to a whole question, if the table can be answered."""
+        if len(question) < self._ahead:
+            return self.short_answer(question)
+        spot = (0, question[:self._ahead])
+        said = []
+        for letter in question[self._ahead:]:
+            said.append(self.reply(spot, letter))
+            spot = self.spot_after(spot, letter, said[-1])
+        return "".join(said) + self.ending(spot)
+
     def spot_after(self, spot, letter, said):
         """The position behind this one, if the letter is asked and the answer letter is said."""
         return self._nexts[spot][int(letter)][int(said)]
