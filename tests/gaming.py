@@ -1,6 +1,5 @@
 """Stages 11 and 12 worked out as plainly as can be: who is right as questions come, and which lines tell which."""
 
-from functools import lru_cache
 from itertools import product
 
 from tests import counting, growing, oracles
@@ -29,24 +28,16 @@ def is_right_for(table, ahead, most):
     """Whether somebody can be right with all questions of at most so many letters, by trying all ways to answer."""
     letters = "0123"[:2 ** table.reads]
     answers = "0123"[:2 ** table.writes]
-
-    @lru_cache(maxsize=None)
-    def is_safe(question_left, state, waiting):
-        """Whether all is well if so many more letters may be asked."""
-        if not can_end(table, (state, waiting)):
-            return False
-        if question_left == 0:
-            return True
-        for letter in letters:
-            if len(waiting) < ahead:
-                if not is_safe(question_left - 1, state, waiting + letter):
-                    return False
-            elif not any(is_safe(question_left - 1, *next_position(table, (state, waiting), letter, said))
-                         for said in answers):
-                return False
-        return True
-
-    return is_safe(most, 0, "")
+    nodes = [(state, waiting) for state in range(len(table.rows)) for waiting in counting.questions_to(table, ahead)]
+    ends = {node: can_end(table, node) for node in nodes}
+    nexts = {(state, waiting): [[(state, waiting + letter)] if len(waiting) < ahead else
+                                [next_position(table, (state, waiting), letter, said) for said in answers]
+                                for letter in letters] for state, waiting in nodes}
+    # Where all is well if so many more letters may be asked.
+    safe = ends
+    for _ in range(most):
+        safe = {node: ends[node] and all(any(safe[behind] for behind in ways) for ways in nexts[node]) for node in nodes}
+    return safe[0, ""]
 
 
 def can_answer(table, ahead):
