@@ -217,6 +217,36 @@ class JudgedTest(Checked):
         self.assertIs(does_hold(("within", "b", "b"), rows), True)
 
 
+# It writes at most one 1, at the first, fourth, seventh place and so on.
+SLOW = Mayrow(1, 1, 4, ((0, 0, 0, 1), (0, 1, 0, 1), (0, 1, 1, 3), (1, 0, 0, 2), (1, 1, 0, 2), (2, 0, 0, 0), (2, 1, 0, 0),
+                        (3, 0, 0, 3), (3, 1, 0, 3)), (0, 1, 2, 3))
+# Two counters, one for each of two letters; another letter leads from each of them to the last state.
+COUNTERS = Mayrow(2, 1, 4, ((0, 0, 0, 0), (0, 1, 0, 0), (0, 0, 1, 1), (0, 1, 1, 2), (1, 0, 0, 1), (1, 1, 0, 1), (1, 3, 0, 3),
+                            (2, 0, 0, 2), (2, 1, 0, 2), (2, 2, 0, 3)), (3,))
+
+
+class ManyAnswersTest(Checked):
+
+    def test_wide_papers(self):
+        rows = {"slow": SLOW}
+        self.assertEqual(paper_against(("most", "slow", 67), rows), ("question", ("100" * 67)[:199]))
+        self.assertIs(does_hold(("most", "slow", 67), rows), False)
+        for number in (68, 99):
+            promise = ("most", "slow", number)
+            # The question that is asked for [14.4] has more than 200 letters, whatever of it is told.
+            self.assertTooMany(200, does_hold, promise, rows)
+            self.assertTooMany(200, paper_against, promise, rows)
+            self.assertTooMany(200, is_paper_against, promise, rows, ("question", "1" * 200))
+
+    def test_many_vectors(self):
+        rows = {"two": COUNTERS}
+        self.assertEqual(paper_against(("most", "two", 0), rows), ("question", "03"))
+        for function in (does_hold, paper_against):
+            self.assertTooMany(2000, function, ("most", "two", 99), rows)
+        self.assertTooMany(2000, is_paper_against, ("most", "two", 99), rows, None)
+        self.assertIs(does_hold(("answered", "two"), rows), False)
+
+
 def _texts(paper):
     """All texts in a paper behind its word."""
     return [text for part in paper[1:] for text in ((part,) if type(part) is str else part)]
