@@ -36,7 +36,8 @@ def is_right_for(table, ahead, most):
     # Where all is well if so many more letters may be asked.
     safe = ends
     for _ in range(most):
-        safe = {node: ends[node] and all(any(safe[behind] for behind in ways) for ways in nexts[node]) for node in nodes}
+        safe = {node: ends[node] and all(any(safe[behind] for behind in ways) for ways in nexts[node])
+                for node in nodes}
     return safe[0, ""]
 
 

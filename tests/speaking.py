@@ -66,8 +66,8 @@ def wrong_spot(text):
     """Where the first wrong word of a line begins, or where more words are lacking, or `None` for a command."""
     line = Line(text)
     try:
-        word = line.take(lambda one: one in ("put", "take", "promise", "back", "lot", "end", "drop", "undo", "names", "promises",
-                                             "show", "grow", "look", "least", "keys", "ask", "count", "is"))
+        word = line.take(lambda one: one in ("put", "take", "promise", "back", "lot", "end", "drop", "undo", "names",
+                                             "promises", "show", "grow", "look", "least", "keys", "ask", "count", "is"))
         if word in ("put", "take", "show"):
             line.take(promising.is_name)
         if word == "undo":
@@ -105,7 +105,8 @@ def table_of(term, tables):
     if len(parts) == 1:
         return ~parts[0] if term[0] == "~" else turned(parts[0])
     one, other = parts
-    return {"|": lambda: one | other, "&": lambda: one & other, "-": lambda: one - other, ">": lambda: behind(one, other)}[term[0]]()
+    return {"|": lambda: one | other, "&": lambda: one & other, "-": lambda: one - other,
+            ">": lambda: behind(one, other)}[term[0]]()
 
 
 def term_of(text):

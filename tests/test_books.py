@@ -67,7 +67,8 @@ class BookTest(Checked):
         with self.assertRaises(error) as caught:
             function(*values)
         self.assertIs(type(caught.exception), error)
-        kept = {UnknownName: "wanted", TooMany: "most", Refused: "reason", NothingToUndo: "many", InvalidNumber: "given"}
+        kept = {UnknownName: "wanted", TooMany: "most", Refused: "reason", NothingToUndo: "many",
+                InvalidNumber: "given"}
         if error in kept:
             self.assertEqual(getattr(caught.exception, kept[error]), told)
         self.assertEqual(look_of(book), before)
@@ -79,7 +80,8 @@ class BookTest(Checked):
 
     def test_rows_and_names(self):
         book = filled({"late": LATE, "copy": COPY, "z": FREE, "abc": ONCE})
-        self.assertEqual((book.names, list(book), len(book)), (("abc", "copy", "late", "z"), ["abc", "copy", "late", "z"], 4))
+        self.assertEqual((book.names, list(book), len(book)), (("abc", "copy", "late", "z"),
+                                                               ["abc", "copy", "late", "z"], 4))
         self.assertEqual([book[name] for name in book], [ONCE, COPY, LATE, FREE])
         self.assertEqual(book.table_of("abc"), Table.of(ONCE))
         for value in strangers() + ["abcd", "A", ("abc",), ["abc"], {"abc": 0}]:
@@ -134,7 +136,8 @@ class BookTest(Checked):
         self.assertEqual((book.touched, book.judged), ((), ()))
         book.do((("put", "copy", HALF), ("put", "late", COPY), ("take_back", ("answered", "copy"))))
         self.assertEqual((book.touched, book.judged), (("copy", "late"), tuple(promises[1:])))
-        book.do((("put", "copy", ONCE), ("promise", ("told", "new", (0,), 1)), ("take_out", "once"), ("put", "copy", HALF)))
+        book.do((("put", "copy", ONCE), ("promise", ("told", "new", (0,), 1)), ("take_out", "once"),
+                 ("put", "copy", HALF)))
         self.assertEqual((book.touched, book.judged), (("once",), (("told", "new", (0,), 1),)))
         self.assertEqual((book.undo(2), book.touched, book.judged), (len(NAMED) + 6, ("copy", "late", "once"), ()))
         self.assertEqual((book.undo(0), book.touched), (len(NAMED) + 6, ("copy", "late", "once")))
@@ -232,8 +235,9 @@ class BookTest(Checked):
         for function in (lot.promise, lot.take_back):
             self.check_wrong(function, (("answered", "copy"),), (InvalidPromise, PROMISES))
         before = look_of(book)
-        wrong_deeds = [value for value in strangers()] + [("put", "a"), ("put", "A", COPY), ("put", "a", None), ("put", "a", COPY, 1),
-                                                          ("take_out", "a", "b"), ("take_out", "A"), ("take_out",), ("drop", "a"),
+        wrong_deeds = [value for value in strangers()] + [("put", "a"), ("put", "A", COPY), ("put", "a", None),
+                                                          ("put", "a", COPY, 1), ("take_out", "a", "b"),
+                                                          ("take_out", "A"), ("take_out",), ("drop", "a"),
                                                           ("promise", ("most", "a")), ("promise",), ("take_back", None),
                                                           ["take_out", "a"], ("answered", "copy"), (None, "a"),
                                                           ("promise", ("answered", "a"), COPY), ("put", COPY, "a")]
@@ -247,10 +251,12 @@ class BookTest(Checked):
 
     def test_follows_of_unknown_names(self):
         book = filled()
-        for promise, name in ((("within", "a", "b"), "a"), (("alike", "copy", "b"), "b"), (("told", "zz", (3,), 3), "zz")):
+        for promise, name in ((("within", "a", "b"), "a"), (("alike", "copy", "b"), "b"),
+                              (("told", "zz", (3,), 3), "zz")):
             self.check_refused(book, UnknownName, name, book.follows, promise)
         book.put("two", TWO)
-        for promise in (("within", "two", "copy"), ("told", "copy", (2,), 0), ("told", "copy", (), 3), ("alike", "copy", "two")):
+        for promise in (("within", "two", "copy"), ("told", "copy", (2,), 0), ("told", "copy", (), 3),
+                        ("alike", "copy", "two")):
             self.assertIs(book.follows(promise), False)
 
 
@@ -443,7 +449,8 @@ class LotTest(Checked):
                 lot.promise(("alike", "once", "free")), lot.put("once", ONCE)]
         self.assertEqual(told, [True, False, True, True, True, False, True, True, False])
         self.assertEqual(look_of(book), before)
-        self.assertEqual((lot.end(), lot.is_open, book.version, book.touched), (True, False, 6, ("copy", "free", "late")))
+        self.assertEqual((lot.end(), lot.is_open, book.version, book.touched),
+                         (True, False, 6, ("copy", "free", "late")))
         self.assertEqual((book["free"], book["copy"], book.names), (ONCE, HALF, ("copy", "free", "once")))
         self.assertEqual(book.judged, (("within", "copy", "free"), ("alike", "once", "free")))
 
@@ -483,9 +490,10 @@ class LotTest(Checked):
         book = filled({name: COPY for name in "abcdefghijkl"}, [("most", "a", number) for number in range(1, 17)])
         lot = book.lot()
         for error, told, function, values in (
-                (TooMany, 12, lot.put, ("m", COPY)), (TooMany, 12, lot.put, ("m", SIXTY_ONE)), (TooMany, 60, lot.put, ("a", SIXTY_ONE)),
-                (TooMany, 16, lot.promise, (("answered", "a"),)), (UnknownName, "m", lot.take_out, ("m",)),
-                (UnknownName, ("answered", "a"), lot.take_back, (("answered", "a"),))):
+                (TooMany, 12, lot.put, ("m", COPY)), (TooMany, 12, lot.put, ("m", SIXTY_ONE)),
+                (TooMany, 60, lot.put, ("a", SIXTY_ONE)), (TooMany, 16, lot.promise, (("answered", "a"),)),
+                (UnknownName, "m", lot.take_out, ("m",)), (UnknownName, ("answered", "a"), lot.take_back,
+                                                           (("answered", "a"),))):
             with self.assertRaises(error) as caught:
                 function(*values)
             self.assertEqual(getattr(caught.exception, "most" if error is TooMany else "wanted"), told)
@@ -505,15 +513,17 @@ class LotTest(Checked):
         before = look_of(book)
         # Wrong values are told later than that a lot is open.
         for function, values in ((book.put, ("copy", FREE)), (book.put, (None, None)), (book.take_out, ("lost",)),
-                                 (book.take_out, ("A",)), (book.promise, (("answered", "free"),)), (book.promise, (None,)),
-                                 (book.take_back, (("answered", "copy"),)), (book.take_back, (7,)), (book.do, (None,)),
-                                 (book.do, ((("take_out", "lost"),),)), (book.lot, ()), (book.undo, ()), (book.undo, (0,)),
-                                 (book.undo, ("x",)), (book.undo, (99,))):
+                                 (book.take_out, ("A",)), (book.promise, (("answered", "free"),)),
+                                 (book.promise, (None,)), (book.take_back, (("answered", "copy"),)),
+                                 (book.take_back, (7,)), (book.do, (None,)), (book.do, ((("take_out", "lost"),),)),
+                                 (book.lot, ()), (book.undo, ()), (book.undo, (0,)), (book.undo, ("x",)),
+                                 (book.undo, (99,))):
             self.assertRaisesThis(InvalidOperation, None, function, *values)
         self.assertEqual((look_of(book), lot.is_open), (before, True))
         # What does not change the book goes on.
         self.assertEqual(book.would((("take_out", "copy"),)), (("lacking", ("answered", "copy")),))
-        self.assertEqual((book.follows(("answered", "copy")), book.at(0) == Book(), book == filled()), (True, True, False))
+        self.assertEqual((book.follows(("answered", "copy")), book.at(0) == Book(), book == filled()),
+                         (True, True, False))
         other = book.at(book.version)
         self.assertIs(other.put("copy", FREE), True)
         lot.drop()

@@ -75,7 +75,8 @@ def small(row):
 class ExamplesTest(Checked):
 
     def test_examples(self):
-        self.assertEqual([may_show(COPY, FREE), surely_shows(COPY, FREE), may_show(FREE, COPY), surely_shows(COPY, FLIP)],
+        self.assertEqual([may_show(COPY, FREE), surely_shows(COPY, FREE), may_show(FREE, COPY),
+                          surely_shows(COPY, FLIP)],
                          [("1", 0, "0"), None, None, ("0", 0)])
         self.assertEqual([broken_answers(ONCE, AGAIN, "11", 0), broken_answers(ONCE, AGAIN, "11", 1),
                           may_show(ONCE, AGAIN), places_shown(ONCE, AGAIN, "11")],
@@ -113,7 +114,8 @@ class AnswersTest(Checked):
         question = "101010101001000"
         swapped = Mayrow(1, 1, 2, tuple([(state, 1 - letter, said, following)
                                          for state, letter, said, following in HORNER.choices]), ())
-        for fault, asked, place in ((HORNER, question, 3), (swapped, question[:-1] + "1", 14), (swapped, "0" + question[1:], 0)):
+        for fault, asked, place in ((HORNER, question, 3), (swapped, question[:-1] + "1", 14),
+                                    (swapped, "0" + question[1:], 0)):
             found = self.answer(broken_answers, HORNER, fault, asked, place)
             self.assertEqual((len(found), len(set(found)), list(found) == sorted(found)), (1000, 1000, True))
         self.assertTooMany(1000, broken_answers, HORNER, swapped, question + "0", 15)
@@ -265,7 +267,8 @@ class PapersTest(Checked):
             more = [(phase, tuple(sorted(set(pairs)))) for phase in range(2)
                     for size in range(1, 4) for pairs in product(every, repeat=size)]
             for bunch in sorted(set(more)):
-                for base in (set(met) - {bunch}, set(met) | {bunch}, bunch_closure(row, fault, table, set(met) | {bunch})):
+                for base in (set(met) - {bunch}, set(met) | {bunch}, bunch_closure(row, fault, table,
+                                                                                   set(met) | {bunch})):
                     value = tuple(sorted(base))
                     right = breaking.is_no_sure_paper(row, fault, value)
                     counts[right] += 1

@@ -49,7 +49,8 @@ class FollowsTest(Checked):
         self.assertNotIn(("told", "b", (0, 2), 1), expected)
         book = book_of(rows, [])
         # They hold, but they do not follow.
-        for promise in (("answered", "a"), ("most", "a", 1), ("most", "a", 99), ("ahead", "a", 3), ("told", "b", (0, 1), 2)):
+        for promise in (("answered", "a"), ("most", "a", 1), ("most", "a", 99), ("ahead", "a", 3),
+                        ("told", "b", (0, 1), 2)):
             self.assertEqual((does_hold(promise, rows), book.follows(promise)), (True, False))
 
     def test_each_rule_alone(self):
@@ -108,7 +109,8 @@ class FollowsTest(Checked):
 
     def test_several_rules(self):
         rows = {"a": COPY, "b": SAME, "c": FREE, "l": LATE, "w": WIDE}
-        expected = self.check_follows(rows, [("ahead", "a", 1), ("within", "a", "b"), ("told", "b", (0,), 1), ("within", "b", "c")])
+        expected = self.check_follows(rows, [("ahead", "a", 1), ("within", "a", "b"), ("told", "b", (0,), 1),
+                                             ("within", "b", "c")])
         for promise in (("alike", "a", "b"), ("answered", "c"), ("ahead", "b", 3), ("most", "a", 1), ("most", "b", 99),
                         ("within", "a", "c"), ("ahead", "c", 1), ("told", "a", (0,), 1)):
             self.assertIn(promise, expected)
@@ -116,7 +118,8 @@ class FollowsTest(Checked):
             self.assertNotIn(promise, expected)
         # Lines that nothing tells, and lines that tell by way of others.
         self.check_follows({"w": WIDE}, [("most", "w", 1), ("told", "w", (2,), 0), ("told", "w", (3,), 1)])
-        self.check_follows({"z": NOUGHTS, "y": NOUGHTS}, [("told", "z", (), 1), ("within", "y", "z"), ("answered", "y")])
+        self.check_follows({"z": NOUGHTS, "y": NOUGHTS}, [("told", "z", (), 1), ("within", "y", "z"),
+                                                          ("answered", "y")])
         self.check_follows({"e": EMPTY, "c": FREE}, [("most", "e", 0), ("within", "e", "c"), ("told", "e", (), 0)])
 
     def test_random_promises(self):

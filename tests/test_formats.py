@@ -5,13 +5,14 @@ from itertools import product
 
 from mayrows.book.books import Book
 from mayrows.book.promises import paper_against
-from mayrows.errors import (InvalidBook, InvalidPasses, InvalidPromise, InvalidRow, InvalidTable, ParseError, Refused, TooMany)
+from mayrows.errors import (InvalidBook, InvalidPasses, InvalidPromise, InvalidRow, InvalidTable, ParseError, Refused,
+                            TooMany)
 from mayrows.least.passes import Passes
 from mayrows.row.rows import Mayrow
 from mayrows.table.calculus import nothing
 from mayrows.table.tables import Table
-from mayrows.text.formats import (read_any, read_book, read_passes, read_promise, read_row, read_table, view, write_book,
-                                  write_passes, write_promise, write_row, write_table)
+from mayrows.text.formats import (read_any, read_book, read_passes, read_promise, read_row, read_table, view,
+                                  write_book, write_passes, write_promise, write_row, write_table)
 from tests import promising, wording
 from tests.checking import Checked, strangers, wrong_passes, wrong_rows, wrong_tables
 from tests.samples import (COPY, FREE, LATE, ONCE, PARITY, SIXTY, SIXTY_ONE, last_passes, random_passes, random_row,
@@ -38,7 +39,8 @@ def values_of(sort):
             yield random_table(seed, 1 + seed % 2, 1 + seed // 2 % 2)
     elif sort == "passes":
         yield from [PARITY, Passes.by_letters(1, 1, (0, 1)), Passes(2, 2, ((0,) * 4,), (), (((((3, 0)),),) * 4,))]
-        yield from [ring_passes(30, 30), last_passes(5, 10), Passes(1, 1, ((59, 0),) * 60, tuple(range(60)), (((((0, 0)),) * 60,) * 2,))]
+        yield from [ring_passes(30, 30), last_passes(5, 10), Passes(1, 1, ((59, 0),) * 60, tuple(range(60)),
+                                                                    (((((0, 0)),) * 60,) * 2,))]
         for seed in range(40):
             yield random_passes(seed, 1 + seed % 2, 1 + seed // 2 % 2)
     else:
@@ -50,8 +52,10 @@ FORMATS = {"row": (write_row, read_row), "table": (write_table, read_table), "pa
            "promise": (write_promise, read_promise)}
 SHORT = {"row": ["row 1 1 2 01 0000 0110 1001", "row 2 1 1 - 0000 0310", "row 1 2 6 - ", "row 1 1 1 0"],
          "table": ["table 1 1 2 +0,1,1,0 -1,1,1,1", "table 1 1 1 -0,0,0,0", "table 1 1 2 -1,1,1,1 +0,0,0,0"],
-         "passes": [write_passes(PARITY), "passes 1 1 1 2 - 0,0 1:1,0:0 0:0,0:1", "passes 1 1 3 1 0,2 1,2 1,1 2,2 0:0,0:0,0:0,0:0,0:0,1:0"],
-         "promise": ["within a b", "alike copy abcdefgh", "answered z", "most a 99", "told ab 013 2", "told a - 0", "ahead b 3"]}
+         "passes": [write_passes(PARITY), "passes 1 1 1 2 - 0,0 1:1,0:0 0:0,0:1",
+                    "passes 1 1 3 1 0,2 1,2 1,1 2,2 0:0,0:0,0:0,0:0,0:0,1:0"],
+         "promise": ["within a b", "alike copy abcdefgh", "answered z", "most a 99", "told ab 013 2", "told a - 0",
+                     "ahead b 3"]}
 
 
 class ExamplesTest(Checked):
@@ -59,7 +63,8 @@ class ExamplesTest(Checked):
     def test_examples(self):
         self.assertEqual([write_row(ONCE), write_table(Table.of(COPY)), write_promise(("told", "a", (0, 1), 2)),
                           write_promise(("told", "a", (), 0))],
-                         ["row 1 1 2 01 0000 0100 0111 1001 1101", "table 1 1 2 +0,1,1,0 -1,1,1,1", "told a 01 2", "told a - 0"])
+                         ["row 1 1 2 01 0000 0100 0111 1001 1101", "table 1 1 2 +0,1,1,0 -1,1,1,1", "told a 01 2",
+                          "told a - 0"])
         self.assertEqual(write_passes(PARITY), "passes 1 1 2 1 0,1 0,1 1,0 0:0,1:0,0:0,1:0")
         book = read_any(BOOK)
         self.assertEqual([book["copy"] == COPY, book["free"] == FREE, book.promises, view(Table.of(COPY))],
@@ -130,21 +135,25 @@ class SortsTest(Spots):
     def test_known_spots(self):
         for sort, text, spot in (
                 ("row", "", 0), ("row", " ", 0), ("row", "row", 3), ("row", "row ", 4), ("row", "Row 1 1 1 0", 0),
-                ("row", "row 3 1 1 0", 4), ("row", "row 01 1 1 0", 4), ("row", "row 1 1 7 0", 8), ("row", "row 1 1 0 0", 8),
-                ("row", "row 1 1 2 00", 10), ("row", "row 1 1 2 02", 10), ("row", "row 1 1 2 0-", 10), ("row", "row 1  1 2 0", 6),
-                ("row", "row 1 1 2", 9), ("row", "row 1 1 2 0 0000 0000", 17), ("row", "row 1 1 2 0 0001 0000", 17),
+                ("row", "row 3 1 1 0", 4), ("row", "row 01 1 1 0", 4), ("row", "row 1 1 7 0", 8),
+                ("row", "row 1 1 0 0", 8), ("row", "row 1 1 2 00", 10), ("row", "row 1 1 2 02", 10),
+                ("row", "row 1 1 2 0-", 10), ("row", "row 1  1 2 0", 6), ("row", "row 1 1 2", 9),
+                ("row", "row 1 1 2 0 0000 0000", 17), ("row", "row 1 1 2 0 0001 0000", 17),
                 ("row", "row 1 1 2 0 000", 12), ("row", "row 1 1 2 0 00000", 12), ("row", "row 1 1 2 0 0200", 12),
                 ("row", "row 1 1 2 0 0000\n", 12), ("row", "row 1 1 2 0\t0000", 10), ("row", " row 1 1 2 0", 0),
                 ("table", "table 1 1 61", 10), ("table", "table 1 1 0", 10), ("table", "table 1 1 1 +0,0,0", 12),
-                ("table", "table 1 1 1 0,0,0,0", 12), ("table", "table 1 1 1 +0,0,0,1", 12), ("table", "table 1 1 1", 11),
-                ("table", "table 1 1 1 +0,0,0,0 +0,0,0,0", 21), ("table", "table 1 1 1 +0,0,0,00", 12),
-                ("passes", "passes 1 1 61 1", 11), ("passes", "passes 1 1 1 1 0,0", 15), ("passes", "passes 1 1 1 1 1", 15),
-                ("passes", "passes 1 1 2 1 1,0", 15), ("passes", "passes 1 1 1 1 0 0", 17), ("passes", "passes 1 1 1 1 0 0,0 0:0", 21),
-                ("passes", "passes 1 1 1 1 0 0,0 0:0,2:0", 21), ("passes", "passes 1 1 1 1 0 0,0 0:0,0:1", 21),
-                ("passes", "passes 1 1 1 1 0 0,0 0:0,0:0:0", 21), ("passes", "passes 1 1 1 1 0 0,0 0:0,0:0 0:0,0:0", 29),
-                ("promise", "within a", 8), ("promise", "within a b c", 11), ("promise", "most a 100", 7), ("promise", "most a 00", 7),
-                ("promise", "told a  0", 7), ("promise", "told a 10 0", 7), ("promise", "told a 4 0", 7), ("promise", "told a 0 4", 9),
-                ("promise", "ahead a 4", 8), ("promise", "answered abcdefghi", 9), ("promise", "answered", 8), ("promise", "told a -1 0", 7)):
+                ("table", "table 1 1 1 0,0,0,0", 12), ("table", "table 1 1 1 +0,0,0,1", 12),
+                ("table", "table 1 1 1", 11), ("table", "table 1 1 1 +0,0,0,0 +0,0,0,0", 21),
+                ("table", "table 1 1 1 +0,0,0,00", 12), ("passes", "passes 1 1 61 1", 11),
+                ("passes", "passes 1 1 1 1 0,0", 15), ("passes", "passes 1 1 1 1 1", 15),
+                ("passes", "passes 1 1 2 1 1,0", 15), ("passes", "passes 1 1 1 1 0 0", 17),
+                ("passes", "passes 1 1 1 1 0 0,0 0:0", 21), ("passes", "passes 1 1 1 1 0 0,0 0:0,2:0", 21),
+                ("passes", "passes 1 1 1 1 0 0,0 0:0,0:1", 21), ("passes", "passes 1 1 1 1 0 0,0 0:0,0:0:0", 21),
+                ("passes", "passes 1 1 1 1 0 0,0 0:0,0:0 0:0,0:0", 29), ("promise", "within a", 8),
+                ("promise", "within a b c", 11), ("promise", "most a 100", 7), ("promise", "most a 00", 7),
+                ("promise", "told a  0", 7), ("promise", "told a 10 0", 7), ("promise", "told a 4 0", 7),
+                ("promise", "told a 0 4", 9), ("promise", "ahead a 4", 8), ("promise", "answered abcdefghi", 9),
+                ("promise", "answered", 8), ("promise", "told a -1 0", 7)):
             self.assertEqual(wording.wrong_spot(sort, text), spot, text)
             self.assertSpot(spot, FORMATS[sort][1], text)
         for text in ("table 1 1 2 -1,1,1,1 +0,0,0,0 ", "table 1 1 2 +0,0,0,0 -1,1,1,1 -1,1,1,1"):
@@ -175,19 +184,23 @@ class SortsTest(Spots):
         self.assertSpot(4, read_row, "row " + "1" * 100000 + " 1")
 
     def test_wrong_arguments(self):
-        for function, error, wrong in ((write_row, InvalidRow, wrong_rows()), (write_table, InvalidTable, wrong_tables()),
-                                       (write_passes, InvalidPasses, wrong_passes()), (view, InvalidTable, wrong_tables()),
+        for function, error, wrong in ((write_row, InvalidRow, wrong_rows()),
+                                       (write_table, InvalidTable, wrong_tables()),
+                                       (write_passes, InvalidPasses, wrong_passes()),
+                                       (view, InvalidTable, wrong_tables()),
                                        (write_promise, InvalidPromise, WRONG + strangers()),
-                                       (write_book, InvalidBook, [value for value in strangers() if type(value) is not Book])):
+                                       (write_book, InvalidBook, [value for value in strangers()
+                                                                  if type(value) is not Book])):
             for value in wrong:
                 self.assertRaisesThis(error, None, function, value)
 
     def test_any_sort(self):
-        for text in ("rows 1", "Row 1 1 1 0", " row 1 1 1 0", "view", "x", " ", "\n", "\nput", "take a", "row\n1 1 1 0", "table\n",
-                     "within\na b", "-", "0"):
+        for text in ("rows 1", "Row 1 1 1 0", " row 1 1 1 0", "view", "x", " ", "\n", "\nput", "take a", "row\n1 1 1 0",
+                     "table\n", "within\na b", "-", "0"):
             self.assertSpot(0, read_any, text)
-        for text, spot in (("row", 3), ("table", 5), ("passes 1", 8), ("within a", 8), ("told", 4), ("put", 3), ("promise", 7),
-                           ("put a", 5), ("promise within", 14), ("promise\nput", 7), ("put a row 1 1 1 0\n", 18)):
+        for text, spot in (("row", 3), ("table", 5), ("passes 1", 8), ("within a", 8), ("told", 4), ("put", 3),
+                           ("promise", 7), ("put a", 5), ("promise within", 14), ("promise\nput", 7),
+                           ("put a row 1 1 1 0\n", 18)):
             self.assertSpot(spot, read_any, text)
         self.assertEqual((read_any(""), read_any(BOOK)), (Book(), read_book(BOOK)))
 
@@ -214,8 +227,8 @@ class BooksTest(Spots):
     def books(self):
         """Books of all kinds."""
         yield from [Book(), filled(), read_book(WHOLE)]
-        yield filled(dict(NAMED, two=TWO, big=SIXTY), [("within", "once", "free"), ("told", "two", (2,), 0), ("ahead", "late", 1),
-                                                       ("most", "two", 99), ("most", "two", 1)])
+        yield filled(dict(NAMED, two=TWO, big=SIXTY), [("within", "once", "free"), ("told", "two", (2,), 0),
+                                                       ("ahead", "late", 1), ("most", "two", 99), ("most", "two", 1)])
         yield filled(dict({"abcdefghijk"[at]: random_row(at + 70) for at in range(11)}, z=COPY),
                      [("most", "z", 99 - at) for at in range(16)])
 
@@ -255,11 +268,12 @@ class BooksTest(Spots):
         copy, free, promise = BOOK.split("\n")
         for text, spot in (
                 ("\n", 0), (BOOK + "\n", len(BOOK) + 1), ("\n" + BOOK, 0), (copy + "\n\n" + free, len(copy) + 1),
-                (free + "\n" + copy, len(free) + 5), (copy + "\n" + copy, len(copy) + 5), (promise + "\n" + copy, len(promise) + 1),
-                (copy + " ", len(copy) + 1), (BOOK + "\n" + promise, len(BOOK) + 9), (BOOK + "\n" + promise + " ", len(BOOK) + 9 + 17),
+                (free + "\n" + copy, len(free) + 5), (copy + "\n" + copy, len(copy) + 5),
+                (promise + "\n" + copy, len(promise) + 1), (copy + " ", len(copy) + 1),
+                (BOOK + "\n" + promise, len(BOOK) + 9), (BOOK + "\n" + promise + " ", len(BOOK) + 9 + 17),
                 ("put Copy row 1 1 1 0", 4), ("put copy raw 1 1 1 0", 9), ("put copy", 8), ("promise", 7), ("puts", 0),
-                ("take copy", 0), ("put copy row 1 1 1", 18), ("put copy row 1 1 1\nput a", 18), (copy + "\nput d row 1 1 1 00", len(copy) + 17),
-                ("promise within a b c", 19)):
+                ("take copy", 0), ("put copy row 1 1 1", 18), ("put copy row 1 1 1\nput a", 18),
+                (copy + "\nput d row 1 1 1 00", len(copy) + 17), ("promise within a b c", 19)):
             self.assertEqual(wording.book_spot(text), spot, text)
             self.assertSpot(spot, read_book, text)
 

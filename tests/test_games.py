@@ -18,7 +18,8 @@ LOST = ((0, "", 2, "0"), (1, "", 1, "1"), (2, "", 0, ""), (3, "", 0, ""))
 # Questions of one letter have no answer, all others have each one.
 GAP = widths_table((True, False, True))
 # Two answer letters can be said first, and only what is asked much later tells which one is right.
-PICKS = moves_table(2, 1, [True, True, True, True], [(0, 0, 0, 1), (0, 0, 1, 2), (0, 1, 0, 3), (0, 2, 0, 3), (0, 3, 1, 3)]
+PICKS = moves_table(2, 1, [True, True, True, True], [(0, 0, 0, 1), (0, 0, 1, 2), (0, 1, 0, 3), (0, 2, 0, 3),
+                                                     (0, 3, 1, 3)]
                     + [(1, letter, 0, 3) for letter in (0, 1, 2)] + [(2, letter, 1, 3) for letter in (1, 2, 3)]
                     + [(3, letter, 0, 3) for letter in range(4)])
 

@@ -71,7 +71,8 @@ def ring_table(one, two):
     moves = [(0, 0, 0, 1), (0, 0, 1, 1 + one)]
     moves += [(1 + at, 0, 0, 1 + (at + 1) % one) for at in range(one)]
     moves += [(1 + one + at, 0, 0, 1 + one + (at + 1) % two) for at in range(two)]
-    return moves_table(1, 1, [False] + [at == one - 1 for at in range(one)] + [at == two - 1 for at in range(two)], moves)
+    return moves_table(1, 1, [False] + [at == one - 1 for at in range(one)] + [at == two - 1 for at in range(two)],
+                       moves)
 
 
 def merging_table(last):
@@ -193,7 +194,8 @@ class TellsTest(Checked):
         # Both come to last states after the least width that both lengths of rings allow.
         for one, two, width in ((2, 3, 6), (4, 5, 20), (7, 9, 63), (9, 10, 90)):
             table = ring_table(one, two)
-            self.assertEqual(least_parted(table, (0,), 1), (("0" * width, "0" * width), ("0" * width, "1" + "0" * (width - 1))))
+            self.assertEqual(least_parted(table, (0,), 1), (("0" * width, "0" * width),
+                                                            ("0" * width, "1" + "0" * (width - 1))))
             self.assertIs(tells(table, (0,), 1), False)
         table = ring_table(2, 4)
         self.assertIs(tells(table, (0,), 1), False)
@@ -229,7 +231,8 @@ class PapersTest(Checked):
         self.assertGreater(min(kinds.values()), 300)
 
     def test_each_two_pairs(self):
-        for table, lines, line in ((F, (0,), 1), (O, (1,), 0), (L, (1,), 0), (SUM, (1,), 2), (C, (), 1), (PAIRED, (0,), 1)):
+        for table, lines, line in ((F, (0,), 1), (O, (1,), 0), (L, (1,), 0), (SUM, (1,), 2), (C, (), 1),
+                                   (PAIRED, (0,), 1)):
             pairs = oracles.pairs_to(table, 2)
             for one, other in product(pairs, repeat=2):
                 value = ("parts", one, other)
@@ -258,8 +261,8 @@ class PapersTest(Checked):
 
     def test_spoilt_papers(self):
         wrong = 0
-        for table, lines, line in ((BEAT, (), 1), (L, (0,), 1), (L, (1,), 0), (C, (0,), 1), (F, (0,), 1), (SUM, (0,), 2),
-                                   (TWICE, (2,), 0), (PAIRED, (), 2), (nothing(1, 1), (), 0)):
+        for table, lines, line in ((BEAT, (), 1), (L, (0,), 1), (L, (1,), 0), (C, (0,), 1), (F, (0,), 1),
+                                   (SUM, (0,), 2), (TWICE, (2,), 0), (PAIRED, (), 2), (nothing(1, 1), (), 0)):
             for value in spoilt(line_paper(table, lines, line)):
                 right = gaming.is_line_paper(table, lines, line, value)
                 wrong += not right

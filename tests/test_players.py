@@ -75,7 +75,8 @@ class PlayerTest(Checked):
 
     def test_at_first(self):
         for player in players():
-            self.assertEqual(look_of(player)[2:], ["", "", False, f"player with {player.ahead} ahead behind 0 letters", 0])
+            self.assertEqual(look_of(player)[2:], ["", "", False, f"player with {player.ahead} ahead behind 0 letters",
+                                                   0])
 
     def test_what_was_said_hangs_on_what_was_asked(self):
         for player in players():
@@ -225,12 +226,14 @@ class AskerTest(Checked):
         # Each question has an answer, but its first letter is the last one of the question.
         for ahead in range(4):
             self.assertGreater(self.check_all_answers(A | widths_table((True, False)), ahead, 200), 2)
-        for table, ahead in ((behind(L, L), 1), (behind(L, L), 0), (late_table(3) | widths_table([True] * 4 + [False]), 2)):
+        for table, ahead in ((behind(L, L), 1), (behind(L, L), 0), (late_table(3) | widths_table([True] * 4 + [False]),
+                                                                    2)):
             self.assertGreater(self.check_all_answers(table, ahead, 200), 4)
 
     def test_at_first(self):
         for asker in askers():
-            self.assertEqual(look_of(asker)[2:], ["", "", False, f"asker with {asker.ahead} ahead behind 0 letters", None])
+            self.assertEqual(look_of(asker)[2:], ["", "", False, f"asker with {asker.ahead} ahead behind 0 letters",
+                                                  None])
 
     def test_refused_calls_change_nothing(self):
         many = 0
@@ -286,7 +289,8 @@ class WrongTest(Checked):
 
     def test_wrong_arguments(self):
         for owner, table, ahead in ((Player, L, 1), (Asker, L, 0)):
-            self.check_wrong(owner, (table, ahead), (InvalidTable, wrong_tables()), (InvalidNumber, wrong_numbers(0, 3)))
+            self.check_wrong(owner, (table, ahead), (InvalidTable, wrong_tables()),
+                             (InvalidNumber, wrong_numbers(0, 3)))
 
     def test_refused(self):
         for table in some_tables():

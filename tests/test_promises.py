@@ -15,16 +15,17 @@ from tests.samples import COPY, FAR, FREE, HALF, LATE, ODD, ONCE, SIXTY, SIXTY_O
 NAMED = {"copy": COPY, "free": FREE, "late": LATE, "once": ONCE}
 TWO = Mayrow(2, 1, 1, ((0, 0, 0, 0), (0, 3, 1, 0)), (0,))
 MANY = dict(NAMED, half=HALF, odd=ODD, far=FAR, two=TWO, abcdefgh=Mayrow(1, 1, 1, (), ()), z=Mayrow(1, 1, 1, (), (0,)))
-RIGHT = [("within", "a", "b"), ("alike", "abcdefgh", "abcdefgh"), ("answered", "z"), ("most", "a", 0), ("most", "a", 99),
-         ("told", "a", (), 0), ("told", "a", (0, 1, 2, 3), 3), ("ahead", "a", 0), ("ahead", "a", 3)]
-WRONG = [("within", "a"), ("within", "a", "b", "c"), ("within", "a", "A"), ("within", "", "b"), ("alike", "a", "abcdefghi"),
-         ("answered", "a", "b"), ("answered", "a b"), ("answered",), ("most", "a"), ("most", "a", 100), ("most", "a", -1),
-         ("most", "a", True), ("most", "a", "1"), ("most", "a", 1, 2), ("told", "a", (0,), 4), ("told", "a", (0, 0), 1),
-         ("told", "a", (1, 0), 1), ("told", "a", [0], 1), ("told", "a", (4,), 1), ("told", "a", (0, True), 1),
-         ("told", "a", (), False), ("told", "a", ()), ("told", "a", (), 1, 2), ("told", "a", 0, 1), ("ahead", "a", 4),
-         ("ahead", "a", -1), ("ahead", "a", True), ("ahead", "a", None), ("ahead", "a"), ["answered", "a"], "answered a",
-         ("Within", "a", "b"), ("", "a"), (None, "a"), ("put", "a", "b"), ("most", 1, "a"), ("answered", None), (), ("a",),
-         ("within", ("a",), "b"), ("most", "a", 10 ** 60), ("told", "a", (0,), 10 ** 99)]
+RIGHT = [("within", "a", "b"), ("alike", "abcdefgh", "abcdefgh"), ("answered", "z"), ("most", "a", 0),
+         ("most", "a", 99), ("told", "a", (), 0), ("told", "a", (0, 1, 2, 3), 3), ("ahead", "a", 0), ("ahead", "a", 3)]
+WRONG = [("within", "a"), ("within", "a", "b", "c"), ("within", "a", "A"), ("within", "", "b"),
+         ("alike", "a", "abcdefghi"), ("answered", "a", "b"), ("answered", "a b"), ("answered",), ("most", "a"),
+         ("most", "a", 100), ("most", "a", -1), ("most", "a", True), ("most", "a", "1"), ("most", "a", 1, 2),
+         ("told", "a", (0,), 4), ("told", "a", (0, 0), 1), ("told", "a", (1, 0), 1), ("told", "a", [0], 1),
+         ("told", "a", (4,), 1), ("told", "a", (0, True), 1), ("told", "a", (), False), ("told", "a", ()),
+         ("told", "a", (), 1, 2), ("told", "a", 0, 1), ("ahead", "a", 4), ("ahead", "a", -1), ("ahead", "a", True),
+         ("ahead", "a", None), ("ahead", "a"), ["answered", "a"], "answered a", ("Within", "a", "b"), ("", "a"),
+         (None, "a"), ("put", "a", "b"), ("most", 1, "a"), ("answered", None), (), ("a",), ("within", ("a",), "b"),
+         ("most", "a", 10 ** 60), ("told", "a", (0,), 10 ** 99)]
 
 
 def small_rows():
@@ -67,7 +68,8 @@ class FormTest(Checked):
     def test_names(self):
         for value in ("a", "z", "abcdefgh", "zzzzzzzz", "lot", "put"):
             self.assertIs(self.answer(is_name, value), True)
-        for value in strangers() + ["abcdefghi", "A", "aB", "a1", "a ", " a", "a\n", "a-", "a" * 3000, ("a",), ["a"], "`", "{"]:
+        for value in strangers() + ["abcdefghi", "A", "aB", "a1", "a ", " a", "a\n", "a-", "a" * 3000, ("a",), ["a"],
+                                    "`", "{"]:
             self.assertIs(self.answer(is_name, value), promising.is_name(value), value)
             self.assertIs(is_name(value), type(value) is str and value == "x")
 
@@ -165,8 +167,8 @@ class JudgedTest(Checked):
         for rows, promise, most, expected in judged_promises()[::5]:
             paper = paper_against(promise, rows)
             self.assertIs(self.answer(is_paper_against, promise, rows, paper), paper is not None)
-            for value in (None, ("pair", "", ""), ("question", ""), ("question", "0"), ("parts", ("0", "0"), ("1", "1")),
-                          ("asked", ("lost", (), "")), ("pair", "0", "0")):
+            for value in (None, ("pair", "", ""), ("question", ""), ("question", "0"),
+                          ("parts", ("0", "0"), ("1", "1")), ("asked", ("lost", (), "")), ("pair", "0", "0")):
                 if promise[0] != "ahead":
                     self.assertIs(is_paper_against(promise, rows, value), value == paper and paper is not None)
 
@@ -186,8 +188,8 @@ class JudgedTest(Checked):
         self.assertIs(is_paper_against(("answered", "half"), MANY, ("question", "01")), False)
 
     def test_spoilt_papers(self):
-        for promise in (("within", "copy", "once"), ("alike", "free", "late"), ("answered", "half"), ("most", "once", 2),
-                        ("told", "copy", (), 1), ("ahead", "late", 0), ("ahead", "odd", 1)):
+        for promise in (("within", "copy", "once"), ("alike", "free", "late"), ("answered", "half"),
+                        ("most", "once", 2), ("told", "copy", (), 1), ("ahead", "late", 0), ("ahead", "odd", 1)):
             paper = paper_against(promise, MANY)
             table = Table.of(MANY[promise[1]])
             for value in spoilt(paper):
@@ -197,10 +199,11 @@ class JudgedTest(Checked):
 
     def test_any_value_can_be_judged(self):
         for part in strangers() + [10 ** 5000, "1" * 5000]:
-            for promise in (("within", "copy", "once"), ("most", "once", 2), ("told", "copy", (), 1), ("ahead", "late", 0),
-                            ("answered", "copy")):
-                for value in (part, (part,), (part, part), ("asked", part), ("pair", "11", part), ("parts", part, ("1", "1")),
-                              (part, ("lost", (), "")), ("asked", ("lost", (part,), "")), ("question", part)):
+            for promise in (("within", "copy", "once"), ("most", "once", 2), ("told", "copy", (), 1),
+                            ("ahead", "late", 0), ("answered", "copy")):
+                for value in (part, (part,), (part, part), ("asked", part), ("pair", "11", part),
+                              ("parts", part, ("1", "1")), (part, ("lost", (), "")), ("asked", ("lost", (part,), "")),
+                              ("question", part)):
                     self.assertIs(is_paper_against(promise, MANY, value), False)
 
     def test_too_many(self):
@@ -218,11 +221,11 @@ class JudgedTest(Checked):
 
 
 # It writes at most one 1, at the first, fourth, seventh place and so on.
-SLOW = Mayrow(1, 1, 4, ((0, 0, 0, 1), (0, 1, 0, 1), (0, 1, 1, 3), (1, 0, 0, 2), (1, 1, 0, 2), (2, 0, 0, 0), (2, 1, 0, 0),
-                        (3, 0, 0, 3), (3, 1, 0, 3)), (0, 1, 2, 3))
+SLOW = Mayrow(1, 1, 4, ((0, 0, 0, 1), (0, 1, 0, 1), (0, 1, 1, 3), (1, 0, 0, 2), (1, 1, 0, 2), (2, 0, 0, 0),
+                        (2, 1, 0, 0), (3, 0, 0, 3), (3, 1, 0, 3)), (0, 1, 2, 3))
 # Two counters, one for each of two letters; another letter leads from each of them to the last state.
-COUNTERS = Mayrow(2, 1, 4, ((0, 0, 0, 0), (0, 1, 0, 0), (0, 0, 1, 1), (0, 1, 1, 2), (1, 0, 0, 1), (1, 1, 0, 1), (1, 3, 0, 3),
-                            (2, 0, 0, 2), (2, 1, 0, 2), (2, 2, 0, 3)), (3,))
+COUNTERS = Mayrow(2, 1, 4, ((0, 0, 0, 0), (0, 1, 0, 0), (0, 0, 1, 1), (0, 1, 1, 2), (1, 0, 0, 1), (1, 1, 0, 1),
+                            (1, 3, 0, 3), (2, 0, 0, 2), (2, 1, 0, 2), (2, 2, 0, 3)), (3,))
 
 
 class ManyAnswersTest(Checked):

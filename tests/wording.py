@@ -70,7 +70,8 @@ def passes_word(words, word):
     reads, writes, rights, lefts = [int(one) for one in words[1:5]]
     if at == 5:
         return word == "-" or (is_list(word, word.count(",") + 1, rights)
-                               and all(int(one) < int(other) for one, other in zip(word.split(","), word.split(",")[1:])))
+                               and all(int(one) < int(other) for one, other in zip(word.split(","),
+                                                                                   word.split(",")[1:])))
     if at < 6 + rights:
         return is_list(word, 2 ** reads, rights)
     parts = [part.split(":") for part in word.split(",")]
@@ -169,7 +170,8 @@ def spoilt_texts(text, marks="0123469-+,: abz\n\tA"):
             yield text[:at] + mark + text[at + 1:]
     words = text.split(" ")
     for at in range(len(words)):
-        for word in ("", "00", "10", "-", "+", "row", "put", "7", "200", "1" * 400, words[at] + words[at], words[at - 1]):
+        for word in ("", "00", "10", "-", "+", "row", "put", "7", "200", "1" * 400, words[at] + words[at],
+                     words[at - 1]):
             yield " ".join(words[:at] + [word] + words[at + 1:])
             yield " ".join(words[:at] + [word] + words[at:])
         yield " ".join(words[:at] + words[at + 1:])
