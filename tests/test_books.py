@@ -152,6 +152,7 @@ class BookTest(Checked):
         self.check_refused(book, TooMany, 12, book.put, "m", COPY)
         # Too many names are told ahead of a row with too large a table.
         self.check_refused(book, TooMany, 12, book.put, "m", SIXTY_ONE)
+        self.check_refused(book, InvalidRow, None, book.put, "m", None)
         self.check_refused(book, TooMany, 12, book.do, (("put", "m", COPY), ("take_out", "m")))
         self.check_refused(book, TooMany, 12, book.would, (("put", "m", COPY), ("take_out", "m")))
         self.assertIs(book.put("l", FREE), True)
@@ -240,7 +241,10 @@ class BookTest(Checked):
                                                           ("take_out", "A"), ("take_out",), ("drop", "a"),
                                                           ("promise", ("most", "a")), ("promise",), ("take_back", None),
                                                           ["take_out", "a"], ("answered", "copy"), (None, "a"),
-                                                          ("promise", ("answered", "a"), COPY), ("put", COPY, "a")]
+                                                          ("promise", ("answered", "a"), COPY), ("put", COPY, "a"),
+                                                          ("take_out", "a", COPY), ("promise", "a", COPY),
+                                                          ("puts", "a", COPY), ("drop", ("answered", "a")),
+                                                          ("put", ("answered", "a")), ("within", ("answered", "a"))]
         for function in (book.do, book.would):
             for value in strangers():
                 self.assertRaisesThis(InvalidOperation, None, function, value)

@@ -3,6 +3,7 @@
 import random
 import unittest
 from itertools import product
+from unittest import mock
 
 from mayrows.errors import InvalidNumber, InvalidOperation, InvalidRow, InvalidText
 from mayrows.fault.faults import (broken_answers, is_no_show_paper, is_no_sure_paper, may_show, no_show_paper,
@@ -204,6 +205,21 @@ class LeastTest(Checked):
         may = may_show(SIXTY, random_fault(SIXTY, 3))
         self.assertEqual(breaking.least_shows(SIXTY, random_fault(SIXTY, 3), len(may[0]))[0], may)
 
+    def test_wide_questions_are_not_returned(self):
+        # No rows are known here that come to such a question, so it is put in their place.
+        for width, error in ((200, False), (201, True)):
+            texts = ("0" * width, "1" * (width - 1) + "0", "1" * width)
+            with mock.patch("mayrows.fault.faults.least_tracks", lambda *_: texts):
+                if error:
+                    self.assertTooMany(200, may_show, COPY, FREE)
+                else:
+                    self.assertEqual(may_show(COPY, FREE), (texts[0], width - 1, texts[2]))
+            with mock.patch("mayrows.fault.faults.least_tracks", lambda *_: texts[:2]):
+                if error:
+                    self.assertTooMany(200, surely_shows, COPY, FLIP)
+                else:
+                    self.assertEqual(surely_shows(COPY, FLIP), (texts[0], width - 1))
+
     def test_many_bunches(self):
         for (row, fault), many in ((STILL, 2000), (SHOWN, 2000), (STILL_MORE, 2001), (SHOWN_MORE, 2001)):
             self.assertEqual(len(breaking.all_bunches(row, fault)), many)
@@ -303,6 +319,12 @@ class PapersTest(Checked):
         for value in (((0, ((0, 0),)), (True, ((0, 0),)), (1, ((0, 0), (0, 1)))),
                       ((0, ((0, 0),)), (1, ((0, 0),)), (1, ((0, 0), (0, True))))):
             self.assertIs(is_no_sure_paper(COPY, FREE, value), False)
+
+    def test_phases(self):
+        paper, sure = no_show_paper(FREE, COPY), no_sure_paper(COPY, FREE)
+        for phase in (2, 3, -1):
+            self.assertIs(is_no_show_paper(FREE, COPY, tuple(sorted(paper + ((phase, 0, 0),)))), False)
+            self.assertIs(is_no_sure_paper(COPY, FREE, tuple(sorted(sure + ((phase, ((0, 0),)),)))), False)
 
     def test_empty_bunches(self):
         paper = no_sure_paper(COPY, FREE)

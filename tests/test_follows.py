@@ -61,6 +61,10 @@ class FollowsTest(Checked):
                 ([("within", "a", "d"), ("within", "d", "a")], ("alike", "a", "d")),
                 ([("alike", "a", "d")], ("within", "a", "d")),
                 ([("alike", "a", "d")], ("within", "d", "a")),
+                ([("alike", "d", "a")], ("within", "a", "d")),
+                ([("alike", "c", "b")], ("within", "b", "c")),
+                ([("alike", "b", "c")], ("within", "c", "b")),
+                ([("answered", "d"), ("within", "d", "a"), ("most", "a", 1)], ("within", "a", "d")),
                 ([("within", "a", "b"), ("answered", "a")], ("answered", "b")),
                 ([("within", "a", "b"), ("ahead", "a", 2)], ("ahead", "b", 2)),
                 ([("within", "a", "d"), ("most", "d", 7)], ("most", "a", 7)),
@@ -123,7 +127,8 @@ class FollowsTest(Checked):
         self.check_follows({"e": EMPTY, "c": FREE}, [("most", "e", 0), ("within", "e", "c"), ("told", "e", (), 0)])
 
     def test_random_promises(self):
-        rows = {"a": COPY, "b": SAME, "c": FREE, "d": ONCE, "e": EMPTY, "s": SUM, "t": TWO, "w": WIDE}
+        rows = {"a": FREE, "b": COPY, "c": SAME, "d": ONCE, "e": EMPTY, "f": FREE, "s": SUM, "t": TWO, "w": WIDE,
+                "x": WIDE}
         every = [promise for promise in promising.all_promises(rows, NUMBERS) if does_hold(promise, rows)]
         many = 0
         for seed in range(25):

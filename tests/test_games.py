@@ -205,6 +205,26 @@ class PapersTest(Checked):
                     value = (kind, kept, opening)
                     self.assertIs(is_game_paper(table, ahead, value), gaming.is_game_paper(table, ahead, value))
 
+    def test_positions_of_other_widths_and_twice(self):
+        row = (0, "", "", "01")
+        for rows in ((row, row), (row, row[:2] + ("", "11")), (row, (0, "0", "0", "00")), (row, (0, "0", "0", "01")),
+                     (row, (0, "0", "0", "00"), (0, "1", "1", "11")), ((0, "0", "0", "00"), (0, "1", "1", "11"))):
+            value = ("won", rows, ())
+            self.assertIs(gaming.is_game_paper(C, 0, value), False)
+            self.assertIs(is_game_paper(C, 0, value), False)
+        first = LOST[0]
+        for rows in ((first, first[:2] + (3, "0")), (first[:2] + (1, "0"), first), (first[:2] + (2, ""), first)):
+            value = ("lost", rows + LOST[1:], "")
+            self.assertIs(gaming.is_game_paper(L, 0, value), False)
+            self.assertIs(is_game_paper(L, 0, value), False)
+        for waiting in ("0", "1", "00"):
+            value = ("lost", LOST + ((3, waiting, 0, ""),), "")
+            self.assertIs(is_game_paper(L, 0, value), False)
+        shorts = ("",)
+        won = game_paper(L, 1)
+        self.assertEqual(won[2], shorts)
+        self.assertIs(is_game_paper(L, 1, ("won", ((0, "", "", "00"),) + won[1], shorts)), False)
+
     def test_spoilt_papers(self):
         wrong = 0
         for table, ahead in ((C, 0), (C, 1), (L, 0), (L, 1), (GAP, 1), (GAP, 0), (~C, 0), (PICKS, 0), (A, 1)):

@@ -228,7 +228,7 @@ class AskerTest(Checked):
             self.assertGreater(self.check_all_answers(A | widths_table((True, False)), ahead, 200), 2)
         for table, ahead in ((behind(L, L), 1), (behind(L, L), 0), (late_table(3) | widths_table([True] * 4 + [False]),
                                                                     2)):
-            self.assertGreater(self.check_all_answers(table, ahead, 200), 4)
+            self.assertGreater(self.check_all_answers(table, ahead, 200), 2)
 
     def test_at_first(self):
         for asker in askers():

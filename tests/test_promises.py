@@ -25,7 +25,8 @@ WRONG = [("within", "a"), ("within", "a", "b", "c"), ("within", "a", "A"), ("wit
          ("told", "a", (), 1, 2), ("told", "a", 0, 1), ("ahead", "a", 4), ("ahead", "a", -1), ("ahead", "a", True),
          ("ahead", "a", None), ("ahead", "a"), ["answered", "a"], "answered a", ("Within", "a", "b"), ("", "a"),
          (None, "a"), ("put", "a", "b"), ("most", 1, "a"), ("answered", None), (), ("a",), ("within", ("a",), "b"),
-         ("most", "a", 10 ** 60), ("told", "a", (0,), 10 ** 99)]
+         ("most", "a", 1, 2, 3), ("within", "a", "b", "b", "b"), ("ahead", "a", 1, 1, 1), ("most", "a", 10 ** 60),
+         ("told", "a", (0,), 10 ** 99)]
 
 
 def small_rows():

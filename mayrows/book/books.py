@@ -174,7 +174,6 @@ class Book:
 
     def follows(self, promise):
         """Whether the promise follows from those of the book [14.9]."""
-        check_promise(promise)
         for name in names_of(promise):
             self._check_known(name)
         return self._now.does_fit(promise) and does_follow(promise, self._now.held, self._now.vows)

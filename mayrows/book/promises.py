@@ -8,7 +8,7 @@ from mayrows.line.lines import least_parted
 from mayrows.row.rows import Mayrow
 from mayrows.table.ends import unanswered
 from mayrows.table.tables import Table
-from mayrows.table.within import is_within, least_beyond, parting
+from mayrows.table.within import least_beyond, parting
 
 MOST_ANSWERS = 99
 MAX_NAME = 8
@@ -54,14 +54,7 @@ def does_fit(promise, rows):
 
 def does_hold(promise, rows):
     """Whether the promise holds."""
-    tables = _tables_of(promise, rows)
-    if promise[0] == "within":
-        return is_within(tables[0], tables[-1])
-    if promise[0] == "alike":
-        return tables[0] == tables[-1]
-    if promise[0] == "ahead":
-        return can_answer(tables[0], promise[2])
-    return paper_of(promise, tables) is None
+    return paper_against(promise, rows) is None
 
 
 def paper_against(promise, rows):

@@ -54,7 +54,7 @@ def line_paper(table, lines, line):
     steps = PartingSteps(CoupleSteps(moves, table.reads, mask_of(lines)), line)
     met = sorted(nodes_reached(steps, (0, 0, 0)))
     dead = [(one, two) for one, two, mark in met if mark]
-    live = [(one, two) for one, two, mark in met if not mark and (one, two) not in dead]
+    live = [(one, two) for one, two, _ in met if (one, two) not in dead]
     return ("told", _state_pairs(moves, live), _state_pairs(moves, dead))
 
 

@@ -53,8 +53,6 @@ def _reply_on(word, table):
 
 
 def _reply_to_is(word, tables):
-    if word == "=" and tables[0] == tables[1]:
-        return "yes"
     pair = parting(tables[0], tables[1]) if word == "=" else least_beyond(tables[0], tables[1])
     return "yes" if pair is None else "no " + _pair_words(pair)
 
