@@ -27,7 +27,7 @@ def places_shown(row, fault, question):
     """The places at which the fault may show at this question, and those at which it surely shows."""
     _check_fault(row, fault)
     check_text(question, row.reads)
-    bunches = _bunches_of(row, fault)
+    bunches = Bunches(row, fault, Table.of(row))
     wrong = _sets_before(bunches, question, bunches.end_set(False))
     right = _sets_before(bunches, question, bunches.end_set(True))
     _, held = bunches.first_node()

@@ -54,6 +54,7 @@ class Bunches:
         self._states = row.states
         self._lasts = row.lasts
         self._last_states = mask_of([state for state, (last, _) in enumerate(table.rows) if last])
+        self._other_states = mask_of([state for state, (last, _) in enumerate(table.rows) if not last])
         self._many = len(table.rows)
         # For each letter and answer letter, what follows each state of the table alone.
         self._singles = [[1 << nexts[index] for _, nexts in table.rows] for index in range(len(table.rows[0][1]))]
@@ -94,8 +95,7 @@ class Bunches:
 
     def end_set(self, is_right):
         """The set of the pairs of a last state of the row and a last state of the table, or one that is none."""
-        every = (1 << self._many) - 1
-        mask = self._last_states if is_right else every & ~self._last_states
+        mask = self._last_states if is_right else self._other_states
         return tuple([mask if state in self._lasts else 0 for state in range(self._states)])
 
     def bounds(self):
