@@ -117,6 +117,9 @@ class CanAnswerTest(Checked):
         self.assertEqual([least_look(late_table(many)) for many in range(1, 4)], [None] * 3)
         self.assertEqual([least_look(table) for table in (C, L, behind(L, L), behind(L, behind(L, L)))], [0, 1, 2, 3])
         # [0.18] More letters ahead can be needed behind one another, and an answered table may have no look at all.
+        four = behind(behind(L, L), behind(L, L))
+        self.assertEqual((gaming.can_answer(four, 3), gaming.can_answer(four, 4)), (False, True))
+        self.assertEqual([can_answer(four, ahead) for ahead in range(3)], [False] * 3)
         whole = A | widths_table((True, False))
         self.assertEqual([unanswered(whole), least_look(whole)], [None, None])
 

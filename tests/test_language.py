@@ -275,6 +275,40 @@ class ExpressionsTest(unittest.TestCase):
                 if isinstance(operator, (ast.Is, ast.IsNot)):
                     self.assertIsInstance(right, ast.Constant, (path, node.lineno))
 
+    def test_handlers(self):
+        own = [node.name for path, node in nodes(ast.ClassDef) if path.name == "errors.py"]
+        for path, function in nodes(ast.FunctionDef):
+            named = []
+            for node in [one for one in ast.walk(function) if isinstance(one, ast.ExceptHandler)]:
+                self.assertIn(node.type.id, own, (path, node.lineno))
+                named += [node.name] if node.name else []
+            # Nothing else in the function has the name of a caught error.
+            stored = [node.id for node in ast.walk(function) if isinstance(node, ast.Name) and is_stored(node)]
+            self.assertEqual(len(named), len(set(named)), path)
+            self.assertEqual(set(named) & set(stored + [one.arg for one in function.args.args]), set(), path)
+
+    def test_items_and_contexts(self):
+        for path, node in nodes(ast.ClassDef):
+            methods = {one.name: one for one in node.body if isinstance(one, ast.FunctionDef)}
+            self.assertTrue("__getitem__" not in methods or "__iter__" in methods, path)
+            self.assertNotIn("keys", methods)
+            if "__iter__" in methods:
+                self.assertEqual(len(methods["__iter__"].body), 1, path)
+                self.assertTrue(is_call_of(methods["__iter__"].body[0].value, "iter"), path)
+            for one in methods["__exit__"].body if "__exit__" in methods else []:
+                self.assertTrue(isinstance(one, ast.Assign) and isinstance(one.value, ast.Constant), path)
+        for path in FILES:
+            text = path.read_text(encoding="utf-8")
+            self.assertNotRegex(text, r"\(type\)|Meta|metaclass=|_wall|\b_cold")
+
+    def test_attributes_are_assigned_through_local_names(self):
+        properties = {node.name for path, node in nodes(ast.FunctionDef)
+                      if any(one.id == "property" for one in node.decorator_list)}
+        for path, node in nodes(ast.Attribute):
+            if isinstance(node.ctx, ast.Store):
+                self.assertIsInstance(node.value, ast.Name, (path, node.lineno))
+                self.assertNotIn(node.attr, properties, (path, node.lineno))
+
     def test_errors(self):
         for path, node in nodes(ast.Raise):
             self.assertIsInstance(node.exc, (ast.Call, type(None)), (path, node.lineno))

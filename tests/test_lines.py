@@ -147,6 +147,8 @@ class TellsTest(Checked):
         for table in some_tables():
             reads = tuple(range(table.reads))
             self.assertIs(len(told_lines(table, reads)) == table.reads + table.writes, is_single(table))
+        for line in range(3):
+            self.assertIs(tells(PAIRED, tuple([other for other in range(3) if other != line]), line), True)
         self.assertFalse(is_single(PAIRED))
 
     def test_turned_tables(self):

@@ -13,7 +13,7 @@ MAX_DEEDS = 40
 
 
 class Lot:
-    """Deeds that a book gets together, or not at all."""
+    """Deeds that a book gets together, or not at all; each one tells whether it changes what the lot has."""
 
     def __init__(self, book, draft):
         self._book = book
