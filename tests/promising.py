@@ -13,6 +13,17 @@ def pairs_ahead(table, other, most):
     return next((pair for pair in oracles.pairs_to(table, most) if not oracles.has_pair(other, *pair)), None)
 
 
+def width_ahead(table, other):
+    """The width of the least pair that the first table has and the second one has not, or `None`, for all widths."""
+    layer, layers = frozenset([(0, 0)]), []
+    while layer not in layers:
+        if any(table.rows[one][0] and not other.rows[two][0] for one, two in layer):
+            return len(layers)
+        layers.append(layer)
+        layer = frozenset([nexts for one, two in layer for nexts in zip(table.rows[one][1], other.rows[two][1])])
+    return None
+
+
 def least_question(table, most, is_wanted):
     """The least question of at most this width that is wanted for the number of its answers, or `None`."""
     return next((question for question in counting.questions_to(table, most)

@@ -18,6 +18,9 @@ FAR = Mayrow(1, 1, 5, ((0, 0, 0, 1), (0, 0, 1, 3), (0, 1, 0, 2), (0, 1, 1, 4), (
 # The plain row of the document: at each place it writes whether the number of ones behind it is odd.
 PARITY = Passes(1, 1, ((0, 1), (1, 0)), (0, 1), ((((0, 0), (1, 0)), ((0, 0), (1, 0))),))
 
+# The pairs of a letter and an answer letter that count.
+COUNTS = ((0, 2), (0, 3), (1, 0), (1, 1), (1, 2), (1, 3))
+
 # Rows whose tables have just 60 states, and just 61.
 SIXTY = Mayrow(1, 1, 6, (
     (0, 0, 1, 1), (0, 0, 1, 4), (0, 1, 0, 1), (1, 0, 0, 1), (1, 0, 0, 3), (1, 0, 1, 3), (1, 0, 1, 5), (1, 1, 0, 2),
@@ -50,6 +53,32 @@ def random_row(seed, reads=1, writes=1, most=3):
     chance.shuffle(choices)
     lasts = chance.sample(range(states), chance.randint(0, states))
     return Mayrow(reads, writes, states, tuple(choices[:many]), tuple(lasts))
+
+
+def ring_row(lasts):
+    """A row that writes 1 at first, and then anything but 0 and 1 to a 0, or anything to a 1, at each fifth letter.
+
+    To all other letters, which are 0, it writes 0. It stands in the states 1 to 5 in turn.
+    """
+    choices = [(0, 0, 1, 1)] + [(state, 0, 0, state + 1) for state in range(1, 5)]
+    choices += [(5, letter, answer, 1) for letter, answer in COUNTS]
+    return Mayrow(1, 2, 6, tuple(choices), lasts)
+
+
+def counter_row(begun):
+    """A row whose walks together are a counter: a state in which none of them can be is a digit that is counted up.
+
+    The pair (0, 1) begins with the states `begun`, and (0, 0) waits. Each other one counts up one digit, if the lower
+    ones are full, and otherwise begins anew with all states. When all digits are full, no walk is left.
+    """
+    digits = (1, 2, 3, 4, 5, 0)
+    every = tuple(range(6))
+    choices = [(state, 0, 0, state) for state in every] + [(state, 0, 1, one) for state in every for one in begun]
+    for at, count in enumerate(COUNTS):
+        choices += [(state,) + count + (one,) for state in digits[:at] for one in every]
+        choices += [(state,) + count + (state,) for state in digits[at + 1:]]
+        choices += [(digits[at],) + count + (one,) for one in digits[:min(at, 4)]]
+    return Mayrow(1, 2, 6, tuple(choices), every)
 
 
 def random_rows(seed, reads=1, writes=1, many=4):

@@ -13,7 +13,7 @@ from mayrows.table.tables import Table
 from tests import promising
 from tests.checking import Checked, strangers, wrong_numbers, wrong_rows
 from tests.samples import COPY, FAR, FREE, HALF, LATE, ODD, ONCE, SIXTY, SIXTY_ONE
-from tests.test_promises import COUNTERS, NAMED, SLOW, TWO, WRONG
+from tests.test_promises import COUNTERS, NAMED, RINGS, SLOW, TWO, WRONG
 
 # Another row with the table of COPY.
 SAME = Mayrow(1, 1, 2, ((0, 0, 0, 1), (0, 1, 1, 1), (1, 0, 0, 0), (1, 1, 1, 0)), (0, 1))
@@ -218,6 +218,25 @@ class BookTest(Checked):
         both = (("promise", ("most", "slow", 99)), ("promise", ("most", "two", 99)))
         self.check_refused(book, TooMany, 200, book.do, both)
         self.check_refused(book, TooMany, 2000, book.do, both[::-1])
+        # The ring is not within the counter, but no pair that shows it can be returned.
+        book = filled(dict(RINGS, new=RINGS["both"]), [("within", "ring", "both"), ("within", "ring", "new")])
+        deeds = (("promise", ("within", "ring", "counter")), ("put", "both", RINGS["counter"]))
+        for function in (book.do, book.would):
+            for deed in deeds:
+                self.check_refused(book, TooMany, 200, function, (deed,))
+        self.check_refused(book, TooMany, 200, book.promise, deeds[0][1])
+        self.check_refused(book, TooMany, 200, book.put, "new", RINGS["counter"])
+        # Of two promises the first one tells the error; `would` goes on behind those that are broken.
+        worse = ("put", "new", Mayrow(1, 2, 1, (), ()))
+        self.check_refused(book, TooMany, 200, book.do, (worse, deeds[1]))
+        self.check_refused(book, Refused, ("broken", ("within", "ring", "new"), ("pair", "", "")), book.do,
+                           (worse, deeds[0]))
+        for deed in deeds:
+            self.check_refused(book, TooMany, 200, book.would, (worse, deed))
+
+    def test_lacking_ahead_of_too_many(self):
+        book = filled(dict(NAMED, slow=SLOW, two=COUNTERS), [("answered", "copy")])
+        both = (("promise", ("most", "slow", 99)), ("promise", ("most", "two", 99)))
         # What is lacking is told by `do` ahead of all that is judged; `would` judges, too.
         self.check_refused(book, Refused, ("lacking", ("answered", "copy")), book.do, (("take_out", "copy"),) + both)
         self.check_refused(book, TooMany, 200, book.would, (("take_out", "copy"),) + both)

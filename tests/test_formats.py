@@ -18,7 +18,7 @@ from tests.checking import Checked, strangers, wrong_passes, wrong_rows, wrong_t
 from tests.samples import (COPY, FREE, LATE, ONCE, PARITY, SIXTY, SIXTY_ONE, last_passes, random_passes, random_row,
                            random_table, ring_passes, widths_table)
 from tests.test_books import filled
-from tests.test_promises import NAMED, RIGHT, TWO, WRONG
+from tests.test_promises import NAMED, RIGHT, RINGS, TWO, WRONG
 
 BOOK = "put copy row 1 1 1 0 0000 0110\nput free row 1 1 1 0 0000 0100 0110\npromise within copy free"
 WHOLE = BOOK + "\npromise most copy 1\npromise told free 01 0\npromise alike free free"
@@ -305,6 +305,12 @@ class BooksTest(Spots):
                 with self.assertRaises(Refused) as caught:
                     function(text)
                 self.assertEqual(caught.exception.reason, reason)
+
+    def test_a_promise_that_is_too_wide_to_be_judged(self):
+        text = write_book(filled(RINGS)) + "\npromise within ring "
+        for function in (read_book, read_any):
+            self.assertEqual(function(text + "both").promises, (("within", "ring", "both"),))
+            self.assertTooMany(200, function, text + "counter")
 
     def test_all_short_texts(self):
         for words in product(("put", "promise", "a", "row", "1", ""), repeat=3):

@@ -10,7 +10,8 @@ from mayrows.row.rows import Mayrow
 from mayrows.table.tables import Table
 from tests import gaming, promising
 from tests.checking import Checked, spoilt, strangers
-from tests.samples import COPY, FAR, FREE, HALF, LATE, ODD, ONCE, SIXTY, SIXTY_ONE, random_row
+from tests.samples import (COPY, FAR, FREE, HALF, LATE, ODD, ONCE, SIXTY, SIXTY_ONE, counter_row, random_row,
+                           ring_row)
 
 NAMED = {"copy": COPY, "free": FREE, "late": LATE, "once": ONCE}
 TWO = Mayrow(2, 1, 1, ((0, 0, 0, 0), (0, 3, 1, 0)), (0,))
@@ -249,6 +250,61 @@ class ManyAnswersTest(Checked):
             self.assertTooMany(2000, function, ("most", "two", 99), rows)
         self.assertTooMany(2000, is_paper_against, ("most", "two", 99), rows, None)
         self.assertIs(does_hold(("answered", "two"), rows), False)
+
+
+# Rings and counters, with the width of the least pair of the ring that the counter has not.
+EVERY = (0, 1, 2, 3, 4, 5)
+WIDE = [(EVERY, (0, 1, 2, 3, 5), 196), ((2,), (0, 1, 2, 3, 5), 197), ((5,), (0, 1, 2, 3, 5), 200),
+        (EVERY, (0, 4, 5), 201), ((2,), (0, 4, 5), 202), (EVERY, EVERY, 236), ((0, 5), EVERY, 240)]
+RINGS = {"ring": ring_row(EVERY), "counter": counter_row(EVERY),
+         "both": ring_row(EVERY).also_with(choices=((0, 1, 1, 0),))}
+
+
+class WidePairsTest(Checked):
+
+    def test_a_wide_least_pair(self):
+        promise = ("within", "ring", "counter")
+        for lasts, begun, width in WIDE:
+            rows = {"ring": ring_row(lasts), "counter": counter_row(begun)}
+            tables = [Table.of(rows[name]) for name in ("ring", "counter")]
+            self.assertEqual(promising.width_ahead(*tables), width)
+            self.assertIs(self.answer(does_hold, promise, rows), False)
+            if width > 200:
+                self.assertTooMany(200, paper_against, promise, rows)
+                for value in (None, ("pair", "0", "0"), ("pair", "0" * 200, "0" * 200)):
+                    self.assertTooMany(200, is_paper_against, promise, rows, value)
+            else:
+                paper = self.answer(paper_against, promise, rows)
+                self.assertEqual([len(part) for part in paper], [4, width, width])
+                self.assertEqual([paper[1:] in table for table in tables], [True, False])
+                self.assertIs(is_paper_against(promise, rows, paper), True)
+
+    def test_within_that_holds(self):
+        for one, other in (("ring", "both"), ("ring", "ring"), ("counter", "counter"), ("both", "both")):
+            promise = ("within", one, other)
+            self.assertIs(promising.width_ahead(Table.of(RINGS[one]), Table.of(RINGS[other])), None)
+            self.assertIs(self.answer(does_hold, promise, RINGS), True)
+            self.assertIs(paper_against(promise, RINGS), None)
+            self.assertIs(is_paper_against(promise, RINGS, ("pair", "", "")), False)
+
+    def test_narrow_pairs_of_the_same_rows(self):
+        for promise, paper in ((("within", "both", "ring"), ("pair", "1", "1")),
+                               (("within", "counter", "ring"), ("pair", "0", "0")),
+                               (("alike", "ring", "both"), ("pair", "1", "1")),
+                               (("alike", "ring", "counter"), ("pair", "0", "0")),
+                               (("alike", "counter", "ring"), ("pair", "0", "0"))):
+            self.assertIs(self.answer(does_hold, promise, RINGS), False)
+            self.assertEqual(paper_against(promise, RINGS), paper)
+
+    def test_alike_rows_that_are_unlike(self):
+        turned = {state: (0, 2, 3, 4, 5, 1)[state] for state in EVERY}
+        choices = tuple([(turned[state], letter, answer, turned[following])
+                         for state, letter, answer, following in RINGS["ring"].choices])
+        rows = dict(RINGS, turned=Mayrow(1, 2, 6, choices, EVERY))
+        self.assertIs(rows["turned"] == rows["ring"], False)
+        for one, other in (("ring", "turned"), ("turned", "ring"), ("ring", "ring"), ("counter", "counter")):
+            self.assertIs(self.answer(does_hold, ("alike", one, other), rows), True)
+            self.assertIs(paper_against(("alike", one, other), rows), None)
 
 
 def _texts(paper):

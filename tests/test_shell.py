@@ -20,7 +20,7 @@ from tests.checking import Checked, strangers
 from tests.samples import COPY, FAR, FREE, LATE, ODD, ONCE, SIXTY, SIXTY_ONE
 from tests.test_books import EMPTY, SAME, filled
 from tests.test_lines import SUM as SUM_TABLE
-from tests.test_promises import COUNTERS, NAMED, SLOW, TWO
+from tests.test_promises import COUNTERS, NAMED, RINGS, SLOW, TWO
 
 SUM = SUM_TABLE.as_row()
 WIDE = Mayrow(2, 2, 1, ((0, 0, 0, 0), (0, 3, 1, 0), (0, 2, 3, 0)), (0,))
@@ -91,6 +91,14 @@ class CommandsTest(Checked):
         other = shell_of({"slow": SLOW, "two": COUNTERS})
         self.check_lines(other, ("promise most slow 99", "too many 200"), ("promise most two 99", "too many 2000"),
                          ("promise most slow 67", "refused broken most slow 67"))
+        # The pairs of the ring that the counter has not are too wide.
+        rings = shell_of(RINGS)
+        self.check_lines(rings, ("promise within ring counter", "too many 200"), ("promises", "none"),
+                         ("is ring <= counter", "too many 200"), ("is ring = counter", "no 0 0"),
+                         ("is counter <= ring", "no 0 0"), ("is ring <= both", "yes"), ("is both <= ring", "no 1 1"),
+                         ("promise within ring both", "done"),
+                         ("promise alike ring both", "refused broken alike ring both"),
+                         ("put both " + write_row(RINGS["counter"]), "too many 200"))
 
     def test_lots(self):
         shell = shell_of()

@@ -8,7 +8,7 @@ from mayrows.line.lines import least_parted
 from mayrows.row.rows import Mayrow
 from mayrows.table.ends import unanswered
 from mayrows.table.tables import Table
-from mayrows.table.within import least_beyond, parting
+from mayrows.table.within import is_within, least_beyond, parting
 
 MOST_ANSWERS = 99
 MAX_NAME = 8
@@ -54,7 +54,7 @@ def does_fit(promise, rows):
 
 def does_hold(promise, rows):
     """Whether the promise holds."""
-    return paper_against(promise, rows) is None
+    return _is_kept(promise, _tables_of(promise, rows))
 
 
 def paper_against(promise, rows):
@@ -103,6 +103,19 @@ def paper_of(promise, tables):
     else:
         question = least_with(table, promise[2] + 1, at_least=True)
     return None if question is None else ("question", question)
+
+
+def _is_kept(promise, tables):
+    """Whether a promise that fits holds; `tables` are those of its names."""
+    # These three are told without their papers, one of which can be too wide to be returned.
+    if promise[0] == "within":
+        return is_within(tables[0], tables[-1])
+    if promise[0] == "alike":
+        return tables[0] == tables[-1]
+    if promise[0] == "ahead":
+        return can_answer(tables[0], promise[2])
+    # Of the others just what their papers tell is asked for [14.4], so they raise what is raised there.
+    return paper_of(promise, tables) is None
 
 
 def _are_told_lines(value):
